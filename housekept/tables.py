@@ -1,0 +1,183 @@
+"""Tables: for each place the least crowds from which loads can be met, round by round."""
+from housekept.buildings import check_building
+from housekept.courses import check_building_web, check_place, moved
+from housekept.crowds import Packing, check_crowd, greatest_number
+from housekept.errors import BadRound, BadTable, TooMany
+from housekept.promises import check_loads, check_most
+from housekept.shapes import is_from
+
+
+class Entry:
+    """A crowd, packed, that is least at a place from the round born until the round died, None if for ever."""
+
+    def __init__(self, whole, born):
+        self.whole = whole
+        self.born = born
+        self.died = None
+
+
+class Rounds:
+    """The rounds of a table: each goes back along the moves from what was new in the one ahead."""
+
+    def __init__(self, web, packing, most):
+        self.packing = packing
+        self.most = most
+        self.sources = [[] for _ in web[2]]
+        self.entries = [[] for _ in web[2]]
+        self.lowest = [{} for _ in web[2]]
+        self.many = 0
+        for place, moves in enumerate(web[2]):
+            for source in self.sources_of(place, moves):
+                self.sources[source[2]].append((place, source[0], source[1]))
+
+    def sources_of(self, place, moves):
+        """What moves of a place do, each once: (shift of need, shift of there, next place)."""
+        found = {}
+        for _, need, there, behind in moves:
+            # Where a move stays, and nobody goes, no crowd less than the one behind it leads on.
+            if behind != place or need != there:
+                shift = None if need is None else self.packing.shift(need)
+                found[(shift, None if there is None else self.packing.shift(there), behind)] = True
+        return list(found)
+
+    def fits(self, place, whole):
+        """Whether some least crowd of a place is within one."""
+        guards = self.packing.guards
+        top = whole | guards
+        lowest = self.lowest[place]
+        return whole in lowest or len([one for one in lowest if (top - one) & guards == guards]) > 0
+
+    def before(self, fresh):
+        """For each place the crowds from which moves lead to the fresh ones, if none within them is there."""
+        field = self.packing.field
+        found = {}
+        for place, whole in fresh:
+            for source, need, there in self.sources[place]:
+                back = whole
+                if need is not None:
+                    back = whole + (1 << need) - ((1 << there) if whole >> there & field else 0)
+                if not self.fits(source, back):
+                    there_found = found.setdefault(source, {})
+                    there_found[back] = True
+        return found
+
+    def take(self, found, born):
+        """Take crowds in as those of a round; the pairs (place, crowd) that are new."""
+        guards = self.packing.guards
+        fresh = []
+        for place in sorted(found):
+            lowest = self.lowest[place]
+            for whole in self.packing.least(list(found[place])):
+                gone = [one for one in lowest if ((one | guards) - whole) & guards == guards]
+                for one in gone:
+                    entry = lowest[one]
+                    entry.died = born
+                    del lowest[one]
+                lowest[whole] = Entry(whole, born)
+                self.entries[place].append(lowest[whole])
+                fresh.append((place, whole))
+                self.many += 1 - len(gone)
+        if self.many > self.most:
+            raise TooMany(self.most)
+        return fresh
+
+    def close(self, loads):
+        """Go through all rounds; the number of the last one in which something is new."""
+        found = {place: {self.packing.packed(load): True for load in crowds} for place, crowds in enumerate(loads)}
+        fresh = self.take(found, 0)
+        number = 0
+        found = self.before(fresh)
+        while found:
+            number += 1
+            fresh = self.take(found, number)
+            found = self.before(fresh)
+        return number
+
+
+class Table:
+    """The least crowds from which loads can be met in so many moves, for all places of a web."""
+
+    def __init__(self, building, web, loads, most):
+        check_building(building)
+        check_building_web(building, web)
+        check_loads(building, web, loads)
+        check_most(most)
+        self.building = building
+        self.web = web
+        self.loads = loads
+        self.packing = Packing(building, greatest_number([crowd for crowds in loads for crowd in crowds]))
+        closing = Rounds(web, self.packing, most)
+        self.rounds = closing.close(loads)
+        self.entries = closing.entries
+
+    def least(self, place, k):
+        """The least crowds of a place from which at most k moves are needed."""
+        check_place(self.web, place)
+        if not is_from(k, 0):
+            raise BadRound("this is no number of a round")
+        return self.least_at(place, k)
+
+    def least_at(self, place, k):
+        wholes = [entry.whole for entry in self.entries[place]
+                  if entry.born <= k and (entry.died is None or entry.died > k)]
+        return [self.packing.crowd(whole) for whole in sorted(wholes)]
+
+    def paper(self):
+        """The least crowds of all places from which the loads can be met at all."""
+        return tuple([tuple(self.least_at(place, self.rounds)) for place in range(len(self.web[2]))])
+
+    def left_of(self, place, crowd):
+        """As left, of what is known to be right: entries stand in the order in which they were born."""
+        guards = self.packing.guards
+        top = self.packing.packed(crowd) | guards
+        for entry in self.entries[place]:
+            if (top - entry.whole) & guards == guards:
+                return entry.born
+        return None
+
+    def left(self, place, crowd):
+        """How many moves are left, at least, until the loads are met; None if they never are."""
+        check_place(self.web, place)
+        check_crowd(self.building, crowd)
+        return self.left_of(place, crowd)
+
+    def move_from(self, place, crowd):
+        """The first move that leaves one move less, and the crowd behind it; None if there is none."""
+        many = self.left_of(place, crowd)
+        if many is None or many == 0:
+            return None
+        for move in self.web[2][place]:
+            behind = moved(self.building, crowd, move)
+            if behind is not None and self.left_of(move[3], behind) == many - 1:
+                return (move, behind)
+        return None
+
+    def next_move(self, place, crowd):
+        """The first move of a place that leaves one move less, None where none is left."""
+        check_place(self.web, place)
+        check_crowd(self.building, crowd)
+        found = self.move_from(place, crowd)
+        return None if found is None else found[0]
+
+    def moves_from(self, place, crowd):
+        """As moves_left, of what is known to be right."""
+        if self.left_of(place, crowd) is None:
+            return None
+        moves = []
+        found = self.move_from(place, crowd)
+        while found is not None:
+            move, crowd = found
+            moves.append(move)
+            found = self.move_from(move[3], crowd)
+        return moves
+
+    def moves_left(self, place, crowd):
+        """The least list of moves to where the loads are met, None if there is none."""
+        check_place(self.web, place)
+        check_crowd(self.building, crowd)
+        return self.moves_from(place, crowd)
+
+
+def check_table(table):
+    if not isinstance(table, Table):
+        raise BadTable("this is no table")
