@@ -65,13 +65,12 @@ class Packing:
         self.width = bits + 2
         self.field = (1 << (bits + 1)) - 1
         self.guards = 0
-        for at in range(len(self.areas) * len(self.kinds)):
+        # Where the field of each pair (kind, area) begins.
+        self.shifts = {}
+        spots = [(kind, area) for kind in self.kinds for area in self.areas]
+        for at, spot in enumerate(spots[::-1]):
+            self.shifts[spot] = at * self.width
             self.guards = self.guards | (1 << (at * self.width + bits + 1))
-
-    def shift(self, spot):
-        """Where the field of a pair (kind, area) begins."""
-        place = self.kinds.index(spot[0]) * len(self.areas) + self.areas.index(spot[1])
-        return (len(self.areas) * len(self.kinds) - 1 - place) * self.width
 
     def packed(self, crowd):
         whole = 0
@@ -82,18 +81,73 @@ class Packing:
 
     def crowd(self, whole):
         """The crowd of a whole."""
-        return tuple([tuple([whole >> self.shift((kind, area)) & self.field for area in self.areas])
+        return tuple([tuple([whole >> self.shifts[(kind, area)] & self.field for area in self.areas])
                       for kind in self.kinds])
 
-    def least(self, wholes):
-        """Those within which no other one lies, ascending: what is within another one is less than it."""
+
+def totals_of(crowd):
+    """How many persons of each kind there are."""
+    return tuple([sum(row) for row in crowd])
+
+
+def are_at_most(one, other):
+    return all([number <= most for number, most in zip(one, other)])
+
+
+class Lowest:
+    """Packed crowds of which none lies within another one, in groups by how many persons of each kind they have.
+
+    Of two unlike crowds with as many persons of each kind neither lies within the other one, so each
+    is held against the groups with fewer, or with more, alone.
+    """
+
+    def __init__(self, guards):
+        self.guards = guards
+        self.groups = {}
+        self.under = {}
+        self.over = {}
+
+    def group(self, totals):
+        """The group of crowds with so many persons, made when it is first asked for."""
+        if totals not in self.groups:
+            under = [key for key in self.groups if are_at_most(key, totals)]
+            over = [key for key in self.groups if are_at_most(totals, key)]
+            for key in under:
+                self.over[key].append(totals)
+            for key in over:
+                self.under[key].append(totals)
+            self.groups[totals] = {}
+            self.under[totals] = under
+            self.over[totals] = over
+        return self.groups[totals]
+
+    def lies_above(self, whole, totals):
+        """Whether some crowd here is within one."""
         guards = self.guards
-        kept = []
-        for one in sorted(set(wholes)):
-            top = one | guards
-            if not [less for less in kept if (top - less) & guards == guards]:
-                kept.append(one)
-        return kept
+        top = whole | guards
+        if whole in self.group(totals):
+            return True
+        for key in self.under[totals]:
+            if [one for one in self.groups[key] if (top - one) & guards == guards]:
+                return True
+        return False
+
+    def put(self, whole, totals):
+        """Take in a crowd that no crowd here is within; those within which it lies go, and are returned."""
+        guards = self.guards
+        group = self.group(totals)
+        group[whole] = True
+        gone = []
+        for key in self.over[totals]:
+            above = [one for one in self.groups[key] if ((one | guards) - whole) & guards == guards]
+            for one in above:
+                self.drop(key, one)
+            gone.extend(above)
+        return gone
+
+    def drop(self, totals, whole):
+        group = self.groups[totals]
+        del group[whole]
 
 
 def greatest_number(crowds):
@@ -103,7 +157,15 @@ def greatest_number(crowds):
 def least_of(building, crowds):
     """As least_crowds, of what is known to be right."""
     packing = Packing(building, greatest_number(crowds))
-    return [packing.crowd(whole) for whole in packing.least([packing.packed(crowd) for crowd in crowds])]
+    lowest = Lowest(packing.guards)
+    kept = {}
+    # What is within another one has no more persons, so no crowd that is taken in here goes again.
+    for _, crowd in sorted([(sum(totals_of(crowd)), crowd) for crowd in crowds]):
+        whole, totals = packing.packed(crowd), totals_of(crowd)
+        if not lowest.lies_above(whole, totals):
+            lowest.put(whole, totals)
+            kept[crowd] = True
+    return sorted(kept)
 
 
 def outside_crowd(building, household):
@@ -121,7 +183,7 @@ def crowd_at(building, household):
 def household_of(building, crowd):
     check_building(building)
     check_crowd(building, crowd)
-    return tuple([sum(row) for row in crowd])
+    return totals_of(crowd)
 
 
 def number_there(building, crowd, kind, area):

@@ -149,8 +149,8 @@ class Search:
             seen = {(None, 0, place): True}
             rows = []
             for at, (_, need, there, behind) in enumerate(self.web[2][place]):
-                shift = None if need is None else self.packing.shift(need)
-                more = 0 if need is None else (1 << self.packing.shift(there)) - (1 << shift)
+                shift = None if need is None else self.packing.shifts[need]
+                more = 0 if need is None else (1 << self.packing.shifts[there]) - (1 << shift)
                 # What leads to the same as a move ahead of it, or nowhere, meets no new moment.
                 if (shift, more, behind) not in seen and (more, behind) != (0, place):
                     seen[(shift, more, behind)] = True

@@ -1,7 +1,7 @@
 """Tables: for each place the least crowds from which loads can be met, round by round."""
 from housekept.buildings import check_building
 from housekept.courses import check_building_web, check_place, moved
-from housekept.crowds import Packing, check_crowd, greatest_number
+from housekept.crowds import Lowest, Packing, check_crowd, greatest_number, totals_of
 from housekept.errors import BadRound, BadTable, TooMany
 from housekept.promises import check_loads, check_most
 from housekept.shapes import is_from
@@ -22,76 +22,81 @@ class Rounds:
     def __init__(self, web, packing, most):
         self.packing = packing
         self.most = most
+        self.many = 0
         self.sources = [[] for _ in web[2]]
         self.entries = [[] for _ in web[2]]
-        self.lowest = [{} for _ in web[2]]
-        self.many = 0
+        self.living = [{} for _ in web[2]]
+        self.lowest = [Lowest(packing.guards) for _ in web[2]]
         for place, moves in enumerate(web[2]):
-            for source in self.sources_of(place, moves):
-                self.sources[source[2]].append((place, source[0], source[1]))
+            for need, there, behind in self.effects_of(place, moves):
+                self.sources[behind].append((place, need, there))
 
-    def sources_of(self, place, moves):
-        """What moves of a place do, each once: (shift of need, shift of there, next place)."""
+    def effects_of(self, place, moves):
+        """What moves of a place do, each once: (need, there, next place)."""
         found = {}
         for _, need, there, behind in moves:
             # Where a move stays, and nobody goes, no crowd less than the one behind it leads on.
             if behind != place or need != there:
-                shift = None if need is None else self.packing.shift(need)
-                found[(shift, None if there is None else self.packing.shift(there), behind)] = True
+                found[(need, there, behind)] = True
         return list(found)
 
-    def fits(self, place, whole):
-        """Whether some least crowd of a place is within one."""
-        guards = self.packing.guards
-        top = whole | guards
-        lowest = self.lowest[place]
-        return whole in lowest or len([one for one in lowest if (top - one) & guards == guards]) > 0
-
     def before(self, fresh):
-        """For each place the crowds from which moves lead to the fresh ones, if none within them is there."""
-        field = self.packing.field
+        """For each place the crowds from which moves lead to the fresh ones, with their totals."""
         found = {}
-        for place, whole in fresh:
+        for place, whole, totals in fresh:
             for source, need, there in self.sources[place]:
-                back = whole
-                if need is not None:
-                    back = whole + (1 << need) - ((1 << there) if whole >> there & field else 0)
-                if not self.fits(source, back):
-                    there_found = found.setdefault(source, {})
-                    there_found[back] = True
+                back = self.back(whole, totals, need, there)
+                # At one place the crowd itself is within one that has somebody more.
+                if source != place or back[1] == totals:
+                    met = found.setdefault(source, {})
+                    met[back[0]] = back[1]
         return found
 
+    def back(self, whole, totals, need, there):
+        """The least crowd from which a move leads to one with this crowd within it."""
+        if need is None:
+            return (whole, totals)
+        behind = self.packing.shifts[there]
+        back = whole + (1 << self.packing.shifts[need])
+        if whole >> behind & self.packing.field:
+            return (back - (1 << behind), totals)
+        at = self.packing.kinds.index(need[0])
+        return (back, totals[:at] + (totals[at] + 1,) + totals[at + 1:])
+
     def take(self, found, born):
-        """Take crowds in as those of a round; the pairs (place, crowd) that are new."""
-        guards = self.packing.guards
+        """Take crowds in as those of a round; the triples (place, crowd, totals) that are new."""
         fresh = []
         for place in sorted(found):
-            lowest = self.lowest[place]
-            for whole in self.packing.least(list(found[place])):
-                gone = [one for one in lowest if ((one | guards) - whole) & guards == guards]
-                for one in gone:
-                    entry = lowest[one]
-                    entry.died = born
-                    del lowest[one]
-                lowest[whole] = Entry(whole, born)
-                self.entries[place].append(lowest[whole])
-                fresh.append((place, whole))
-                self.many += 1 - len(gone)
+            rows = sorted([(sum(found[place][whole]), whole) for whole in found[place]])
+            for _, whole in rows:
+                totals = found[place][whole]
+                if not self.lowest[place].lies_above(whole, totals):
+                    self.put(place, whole, totals, born)
+                    fresh.append((place, whole, totals))
         if self.many > self.most:
             raise TooMany(self.most)
         return fresh
 
+    def put(self, place, whole, totals, born):
+        living = self.living[place]
+        gone = self.lowest[place].put(whole, totals)
+        for one in gone:
+            entry = living[one]
+            entry.died = born
+        living[whole] = Entry(whole, born)
+        self.entries[place].append(living[whole])
+        self.many += 1 - len(gone)
+
     def close(self, loads):
         """Go through all rounds; the number of the last one in which something is new."""
-        found = {place: {self.packing.packed(load): True for load in crowds} for place, crowds in enumerate(loads)}
+        found = {place: {self.packing.packed(load): totals_of(load) for load in crowds}
+                 for place, crowds in enumerate(loads)}
         fresh = self.take(found, 0)
-        number = 0
-        found = self.before(fresh)
-        while found:
+        number = -1
+        while fresh:
             number += 1
-            fresh = self.take(found, number)
-            found = self.before(fresh)
-        return number
+            fresh = self.take(self.before(fresh), number + 1)
+        return max(number, 0)
 
 
 class Table:

@@ -301,13 +301,14 @@ def deep_value():
 
 
 def any_values():
-    """Values of all sorts: nothing here is what a parameter of the package expects, but for what the caller knows."""
+    """Values of all sorts: hardly anything here is what some parameter of the package expects."""
     machine = machines.Machine(PLAIN, ("world", (), (), (), 0))
     table = tables.Table(SMALL, ("web", (0,), ((),)), ((),), 1)
     return [None, True, False, -1, 10 ** 99, "", "any", "Front", "x" * 20000, "no such", [], (), {}, [[]], ([],), {"a": []},
             [None], (None,), (True,), [True], ("tick", 1), ("text",), ["any"], ("any",), deep_value(), (deep_value(),),
+            ("card", [], {}, ()), ("becomes", {}, []), ("is", [], []), ("never", (), [[]]), ("shut", ["free"]),
             ("building", (), (), (), ()), ("text", None, (), (), (), ()), ("world", (), (), (), True), machine, table,
-            [machine], (table, table), ({},), [{}], errors.BadArea("no"), 7.0 and "seven", ({"a": ()}, 2), (1, [2]),
+            [machine], (table, table), ({},), [{}], errors.BadArea("no"), "Seven", ({"a": ()}, 2), (1, [2]),
             "\u00e9", "a b", [10 ** 99], (10 ** 99,), {1: 2}, {(): ()}]
 
 
@@ -325,24 +326,6 @@ def put(value, path, new):
     items = list(value)
     items[path[0]] = put(items[path[0]], path[1:], new)
     return type(value)(items)
-
-
-def never_right(value, lists=()):
-    """Variants of a right value that are wrong whatever they are for: tuples as lists, truths for wholes.
-
-    lists: the paths (as tuples of indexes, None for any index) at which a list may stand.
-    """
-    for path, item in nodes(value):
-        free = any(len(one) == len(path) and all(k is None or k == p for k, p in zip(one, path)) for one in lists)
-        if isinstance(item, tuple) and not free:
-            yield put(value, path, list(item))
-        if type(item) is int:
-            for new in (True, False, str(item), None, {}, 10 ** 99, (item,)):
-                if not (new is None and path and False):
-                    yield put(value, path, new)
-        if type(item) is str:
-            for new in (item.encode() and 5, item + "!", [item], item.upper() + "A", {item: item}):
-                yield put(value, path, new)
 
 
 def is_plain(value):
@@ -369,3 +352,61 @@ def lists_within(value):
 
 def seeded(number):
     return random.Random(number)
+
+
+DIGITS = "vwxyz"
+WORTHS = ("a", "b", "c", "d")
+
+
+def all_of(conditions):
+    """A condition for several ones, nested as little as can be."""
+    if len(conditions) == 1:
+        return conditions[0]
+    half = len(conditions) // 2
+    return ("both", all_of(conditions[:half]), all_of(conditions[half:]))
+
+
+def digits_of(number):
+    return [WORTHS[number >> 2 * at & 3] for at in range(5)]
+
+
+def counting(first, stop, back=None):
+    """A text whose button 0 lets v be a value, at small numbers; then it counts, round by round, up to a number.
+
+    There it stays, or goes back to another value of v.
+    """
+    end = all_of([("is", name, worth) for name, worth in zip(DIGITS, digits_of(stop))])
+    made = [(("button", 0), ("is", "z", "a"), (("let", "v", first),))]
+    for at, name in enumerate(DIGITS):
+        for here, worth in enumerate(WORTHS):
+            parts = [("is", lower, "d") for lower in DIGITS[:at]] + [("is", name, worth)]
+            going = all_of(parts + [("not", end)]) if at == 0 else all_of(parts)
+            made.append((("becomes", "v", "any"), going, (("let", name, WORTHS[(here + 1) % 4]),)))
+    if back:
+        made.append((("becomes", "v", "any"), end, (("let", "v", back),)))
+    return ("text", SMALL, tuple((name, WORTHS) for name in DIGITS), (), (), tuple(made))
+
+
+def counted(number):
+    """The standing of a counting text at a number."""
+    return (("shut", "no") + tuple(digits_of(number)), (), (), (None,))
+
+
+BUTTONS = ("world", (), (0, 1, 2, 3, 4, 5), (), 0)
+
+
+def four_thousand(more):
+    """A text with just 4000 standings in the world BUTTONS, or with one more: 2 ** 5 values, 5 ** 3 ticks left."""
+    shut = ("is", "door", "shut")
+    made = [(when, shut, (("start", name, 4),)) for when, name in
+            [(("card", "door", 0, "any"), "r"), (("card", "door", 1, "any"), "s"), (("button", 5), "t")]]
+    for at, name in enumerate(DIGITS):
+        made.append((("button", at), ("both", shut, ("is", name, "a")), (("let", name, "b"),)))
+        made.append((("button", at), ("both", shut, ("is", name, "b")), (("let", name, "a"),)))
+    if more:
+        # From where all values are b, and all timers run, button 0 leads to a standing that nothing leaves.
+        far = all_of([shut] + [("is", name, "b") for name in DIGITS] + [("running", name) for name in "rst"])
+        made.append((("button", 0), far, (("let", "door", "free"), ("let", "v", "a"), ("let", "w", "a"), ("let", "x", "a"))))
+        made.append((("button", 0), far, (("let", "y", "a"), ("let", "z", "a"), ("stop", "r"), ("stop", "s"))))
+        made.append((("button", 0), far, (("stop", "t"),)))
+    return ("text", SMALL, tuple((name, ("a", "b")) for name in DIGITS), (("r", 4), ("s", 4), ("t", 4)), (), tuple(made))
