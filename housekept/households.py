@@ -106,7 +106,8 @@ def boxes(table):
     check_table(table)
     found = [(MANY,) * len(table.building[3])]
     for household in least_households(table):
-        cut = sorted(set([part for box in found for part in cut_boxes(box, household)]), key=box_place)
+        parts = {part: True for box in found for part in cut_boxes(box, household)}
+        cut = sorted(parts, key=box_place)
         found = [box for box in cut if not any([box != other and is_box_within(box, other) for other in cut])]
     return found
 

@@ -76,10 +76,10 @@ class Classes:
         for lot in groups:
             parts = [groups[lot][key] for key in groups[lot]]
             if len(parts) > 1 or len(parts[0]) < len(self.members[lot]):
-                moved.extend(self.split(lot, parts))
+                moved.extend(self.renumbered(lot, parts))
         return moved
 
-    def split(self, lot, parts):
+    def renumbered(self, lot, parts):
         """Give all parts of a lot but the greatest a new number."""
         if sum([len(part) for part in parts]) < len(self.members[lot]):
             named = {at: True for part in parts for at in part}

@@ -6,6 +6,7 @@ from housekept.rules import begin, check_text, is_signal_of, is_standing_of, sig
 from housekept.shapes import are_indexes, is_among, is_ascending, is_between, is_row, is_tuple
 
 STANDINGS = 4000
+KEPT = 16
 
 
 def is_part(value, names):
@@ -109,8 +110,9 @@ class Tails:
         fired = tuple([rule for rule, test in candidates if test(flat, right)])
         if not fired:
             return flat, (), fired
-        now = behind_deeds(flat, self.program.effect(fired).deeds)
-        return now, tuple(self.program.slots.changed(flat, now)), fired
+        deeds = self.program.effect(fired).deeds
+        now = behind_deeds(flat, deeds)
+        return now, tuple([slot for slot, word, _ in deeds if word == "let" and flat[slot] != now[slot]]), fired
 
     def tail(self, flat, candidates, right):
         """The tail from round 1 of a signal on, TooLong if it has more rounds than are let."""
@@ -152,13 +154,19 @@ class Tails:
                 now, slots, fired = self.stepped(key[0], self.candidates(key[0], key[1]), right)
                 path.append((key, fired))
                 key = (now, slots, key[2])
-        for beginning, fired in path[::-1]:
+        for at in range(len(path) - 1, -1, -1):
+            beginning, fired = path[at]
             rest = self.ahead_of(rest, self.program.effect(fired).words, self.marks_of(fired))
-            self.known[beginning] = rest
+            # Of a long path some are kept: another one that comes into it finds one of them soon.
+            if at % KEPT == 0:
+                self.known[beginning] = rest
         return rest
 
     def ringed(self, path, first):
-        """The tail of all beginnings of a ring: that of path from a place on."""
+        """The tail of all beginnings of a ring: that of path from a place on.
+
+        All are kept: so no other path counts one of them as its own, and again as one of the ring.
+        """
         marks = 0
         for _, fired in path[first:]:
             marks = marks | self.marks_of(fired)

@@ -275,7 +275,7 @@ class Calls(Case):
     def test_sets_are_sorted_or_counted_at_once(self):
         for stem, tree in TREES.items():
             let = [id(arg) for node in ast.walk(tree) if isinstance(node, ast.Call) and isinstance(node.func, ast.Name)
-                   and node.func.id in ("sorted", "len") for arg in node.args]
+                   and node.func.id in ("sorted", "len") and not node.keywords for arg in node.args]
             for node in ast.walk(tree):
                 if isinstance(node, ast.Call) and isinstance(node.func, ast.Name) and node.func.id == "set":
                     self.assertIn(id(node), let, f"{stem}:{node.lineno}")

@@ -2,8 +2,8 @@
 import itertools
 import unittest
 
-from helper import (BEGIN, BUTTONS, DIGITS, PLAIN, Plain, RINGS, SMALL, TEXT, WORLD, all_of, counting, four_thousand,
-                    in_world, put, random_standing, random_text, random_world, seeded)
+from helper import (BEGIN, BUTTONS, DIGITS, PLAIN, Plain, RINGS, SMALL, TEXT, WORLD, all_of, counted, counting,
+                    digits_of, four_thousand, in_world, put, random_standing, random_text, random_world, seeded)
 from housekept import errors, machines, meaning, rules
 
 NOTHING = ("world", (), (), (), 0)
@@ -155,6 +155,29 @@ class Bounds(unittest.TestCase):
         with self.assertRaises(errors.TooLong):
             machines.Machine(counting("d", 1002, "b"), ("world", (), (0,), (), 0))
 
+    def near_and_far(self, text, near):
+        """The text with its counting at button 3, and at button 2 a start at a number near the end."""
+        start, *rest = text[5]
+        lets = [("let", name, worth) for name, worth in zip(DIGITS, digits_of(near))]
+        made = [(("button", 3),) + start[1:]] + rest
+        made.extend([(("button", 2), start[1], tuple(lets[:3])), (("button", 2), start[1], tuple(lets[3:]))])
+        return text[:5] + (tuple(made),)
+
+    def test_rounds_that_others_have_come_to_before(self):
+        world = ("world", (), (2, 3), (), 0)
+        for text, number, behind in [(counting("c", 1000), 0, 1000), (counting("a", 998, "b"), 3, None)]:
+            for near in (988, 996, 997):
+                if digits_of(near)[0] != digits_of(number)[0]:
+                    machine = machines.Machine(self.near_and_far(text, near), world, start=counted(number))
+                    end = counted(behind) if behind else counted(number)
+                    for button in (2, 3):
+                        at, answer = machine.after(0, ("button", button))
+                        self.assertEqual((machine.standing(at), answer[2]), (end, behind is None))
+        for text, number in ((counting("b", 1000), 0), (counting("d", 1002, "b"), 0)):
+            for near in (989, 997):
+                with self.assertRaises(errors.TooLong):
+                    machines.Machine(self.near_and_far(text, near), world, start=counted(number))
+
     def two_errors(self, far):
         """A text with far more than 4000 standings that counts too long where its counters have come far."""
         chain = counting("b", 1000)
@@ -196,7 +219,6 @@ class Bounds(unittest.TestCase):
             world = random_world(rand, text)
             expected = [signal for signal in rules.signals(text) if in_world(signal, world)]
             self.assertEqual(machines.signals_in(text, world), expected)
-        self.assertEqual(len(DIGITS), 5)
 
 
 if __name__ == "__main__":
