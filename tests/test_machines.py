@@ -90,6 +90,15 @@ class Machines(unittest.TestCase):
         self.assertEqual(machine.standing(mended)[3], ("free", None))
         self.assertEqual(machine.after(mended, ("stuck", "inner")), (mended, (("free", "shut"), (), False)))
 
+    def test_right_counts_in_later_rounds_too(self):
+        made = ((("card", "any", "any", "any"), ("always",), (("let", "mode", "night"),)),
+                (("becomes", "mode", "night"), ("not", ("not", ("right",))), (("let", "inner", "free"), ("say", 1))),
+                (("tick",), ("always",), (("let", "mode", "day"), ("let", "inner", "shut"))))
+        machine = machines.Machine(TEXT[:5] + (made,), ("world", (), (), (), 0))
+        self.assertEqual(machine.after(0, ("card", "front", 0, "guest"))[1], (("shut", "free"), (1,), False))
+        self.assertEqual(machine.after(0, ("card", "front", 1, "guest"))[1], (("shut", "shut"), (), False))
+        self.assertEqual(machine.after(0, ("card", "front", 0, "staff"))[1], (("shut", "free"), (1,), False))
+
     def test_against_a_plain_walk(self):
         endless = 0
         for seed in range(120):
