@@ -137,7 +137,7 @@ class Tails:
     def later(self, flat, changed, right):
         """The tail from a beginning at which only variables are told; changed is not empty."""
         path, places = [], {}
-        key = (flat, changed, right and self.program.uses_right)
+        key = (flat, changed, right)
         rest = None
         while rest is None:
             if not key[1]:
@@ -199,7 +199,8 @@ class Walk:
     def plans_of(self):
         """For each signal whether it does something by itself, who hears it, and its group.
 
-        Where signals of one group change nothing by themselves, they lead to the same.
+        Where signals of one group change nothing by themselves, they lead to the same. What a signal
+        tells beside itself it tells of a change.
         """
         program = self.program
         groups = {}
@@ -231,7 +232,7 @@ class Walk:
             begun = program.alone(flat, signal) if own else (flat, [signal])
             if begun is None or (full and signal[0] == "stuck"):
                 found = (at, 0)
-            elif begun[0] != flat or len(begun[1]) > 1:
+            elif begun[0] != flat:
                 found = self.entered(at, number, begun[0], program.candidates(begun[1]), right)
             elif group in met:
                 found = met[group]
