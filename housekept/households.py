@@ -1,5 +1,5 @@
 """Least households that can meet loads, and boxes of those that cannot."""
-from housekept.buildings import areas_of, check_building
+from housekept.buildings import areas_of, check_building, kinds_of
 from housekept.courses import check_building_web, check_place, moments_along
 from housekept.crowds import check_crowds, check_household, lies_within, outside_crowd
 from housekept.promises import check_loads, check_promise, loads_where
@@ -104,7 +104,7 @@ def box_place(box):
 def boxes(table):
     """The greatest boxes of households that cannot meet a table's loads."""
     check_table(table)
-    found = [(MANY,) * len(table.building[3])]
+    found = [(MANY,) * len(kinds_of(table.building))]
     for household in least_households(table):
         parts = {part: True for box in found for part in cut_boxes(box, household)}
         cut = sorted(parts, key=box_place)

@@ -110,7 +110,7 @@ def can_go(text, world, looks, some):
     found = []
     for places in lots_below(len(some))[1:]:
         lot = tuple([some[place] for place in places])
-        if len(lot) < many and parting_row(whole, Machine(without_lot(text, lot), world), (0, 0), looks) is None:
+        if len(lot) < many and parting_row(whole, Machine(without_lot(text, lot), world), looks) is None:
             found.append(lot)
     return found
 

@@ -161,8 +161,8 @@ def row_along(machine, met, at, place):
     return row[::-1]
 
 
-def parting_row(one, other, starts, looks):
-    """The least row that two standings answer unlike, None if they are alike.
+def parting_row(one, other, looks):
+    """The least row that two machines answer unlike, None if they are alike.
 
     Pairs are met by their least rows. One within the lots merged so far is left out: what parts
     it parts, behind a lesser row, one of the pairs that merged them.
@@ -171,8 +171,8 @@ def parting_row(one, other, starts, looks):
     _, first = look_rows(one, looks, numbering)
     _, second = look_rows(other, looks, numbering)
     merged = Merged(len(one) + len(other))
-    merged.merge(starts[0], len(one) + starts[1])
-    met = [(starts[0], starts[1], None)]
+    merged.merge(0, len(one))
+    met = [(0, 0, None)]
     at = 0
     while at < len(met):
         here, there, _ = met[at]
@@ -193,4 +193,4 @@ def alike(one, other, looks):
     check_looks(looks)
     if one.signals != other.signals:
         raise UnlikeSignals("the worlds have unlike signals")
-    return parting_row(one, other, (0, 0), looks)
+    return parting_row(one, other, looks)

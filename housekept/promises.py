@@ -146,13 +146,13 @@ class Search:
     def steps_at(self, place):
         """What moves of a place do: (number of the move, shift of who is needed, what is added, next place)."""
         if place not in self.steps:
-            seen = {(None, 0, place): True}
+            seen = {}
             rows = []
             for at, (_, need, there, behind) in enumerate(self.web[2][place]):
                 shift = None if need is None else self.packing.shifts[need]
                 more = 0 if need is None else (1 << self.packing.shifts[there]) - (1 << shift)
                 # What leads to the same as a move ahead of it, or nowhere, meets no new moment.
-                if (shift, more, behind) not in seen and (more, behind) != (0, place):
+                if (more, behind) != (0, place) and (shift, more, behind) not in seen:
                     seen[(shift, more, behind)] = True
                     rows.append((at, shift, more, behind))
             self.steps[place] = rows

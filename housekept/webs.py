@@ -24,8 +24,8 @@ def is_move(value):
     if not is_tuple(value, 4, 4) or not is_label(value[0]) or type(value[3]) is not int or value[3] < 0:
         return False
     need, there = value[1], value[2]
-    if need is None or there is None:
-        return need is None and there is None
+    if need is None:
+        return there is None
     return is_spot(need) and is_spot(there) and need[0] == there[0]
 
 

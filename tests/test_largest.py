@@ -110,6 +110,7 @@ class Largest(unittest.TestCase):
         # Four of x and two of y, wherever they are: 126 times 21 crowds.
         self.assertEqual(len(table.least(0, 99)), 2646)
         self.assertEqual([one for one, _ in households.households_of(table)], [(4, 2, 0)])
+        self.assertEqual(households.boxes(table), [(3, "many", "many"), ("many", 1, "many")])
         self.assertEqual(crowds.least_crowds(TOWER, table.least(0, 99)), table.least(0, 99))
         with self.assertRaises(errors.TooMany):
             tables.Table(TOWER, ("web", (0,), (moves,)), ((load,),), 2645)

@@ -77,6 +77,15 @@ class Least(unittest.TestCase):
         self.assertEqual(least.alike(one, other, ("doors",)), [("card", "door", 0, "guest"), ("pass", "door", 0)])
         self.assertIsNone(least.alike(one, other, ("words",)))
 
+    def test_endless_signals_count_only_if_they_are_looked_at(self):
+        world = ("world", (), (3,), (), 0)
+        one = machines.Machine(RINGS, world)
+        other = machines.Machine(RINGS[:5] + (RINGS[5][:2] + (RINGS[5][2][:2] + ((("let", "flag", "on"),),),) + RINGS[5][3:4],), world)
+        self.assertEqual(least.alike(one, other, ("endless",)), [("button", 3)])
+        self.assertIsNone(least.alike(one, other, ("doors", "words")))
+        self.assertEqual(least.least(one, ("words",)), least.least(other, ("words",)))
+        self.assertNotEqual(least.least(one, ("endless",)), least.least(other, ("endless",)))
+
     def test_unlike_signals(self):
         one, other = machines.Machine(PLAIN, ("world", (), (), (), 0)), machines.Machine(PLAIN, ("world", (), (1,), (), 0))
         with self.assertRaises(errors.UnlikeSignals):
