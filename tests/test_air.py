@@ -31,6 +31,20 @@ class Air(unittest.TestCase):
                           ((5, 1), 7), ((5, 2), 5), ((5, 3), 9), ((5, 3), -1), ((5, 3), True)]:
             self.assertIs(air.is_air(put(AIR, path, new)), False, (path, new))
 
+    def test_numbers_of_rows(self):
+        bare = ("air", (("a", 0, 8, 4), ("b", 0, 0, 0), ("c", -8, 0, -1)), 12, (), (), (0, 0, 0, 0))
+        leaks = tuple((one, other, 6, None) for one in "abc" for other in "abc" if one != other)
+        heaters = tuple((name, "a", 1) for name in "abcd")
+        for value in (bare, put(bare, (3,), leaks), put(bare, (4,), heaters[:3])):
+            self.assertIs(air.is_air(value), True)
+        for path, new in [((1,), ()), ((2,), 0), ((3,), leaks + (("a", "out", 1, None),)), ((4,), heaters),
+                          ((3,), leaks[:5] + (("a", "out", 1, None),)), ((1, 0), ("a", 33, 41, 40)), ((1, 0), ("a", 33, 40, 41)),
+                          ((1, 0), ("a", -41, -35, -35)), ((5,), (33, 41, 40, 0)), ((5,), (-41, -40, -40, 0))]:
+            self.assertIs(air.is_air(put(bare, path, new)), False, (path, new))
+        seven = tuple((one, other, 1, None) for one in "abc" for other in ("a", "b", "c", "out") if one != other)
+        self.assertIs(air.is_air(put(bare, (3,), seven[:6])), True)
+        self.assertIs(air.is_air(put(bare, (3,), seven[:7])), False)
+
     def test_leaks_alike_in_all_but_the_share(self):
         self.assertIs(air.is_air(put(AIR, (3,), AIR[3][:1] + (("hall", "lab", 1, "inner"),))), False)
         self.assertIs(air.is_air(put(AIR, (3,), AIR[3][2:3] + (("hall", "out", 3, None),))), False)
