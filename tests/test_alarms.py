@@ -55,6 +55,7 @@ class Watches(unittest.TestCase):
                           ((2, 0, 0), "any"), ((2, 0, 1), 5), ((2, 0, 1), -1), ((3,), 4), ((3,), -1), ((3,), True), ((4,), 0),
                           ((4,), 4), ((5,), "hand"), ((5,), None)]:
             self.assertIs(alarms.is_watch(put(KEEP, path, new)), False, (path, new))
+        self.assertIs(alarms.is_watch(("watch", KEEP[1], (), 0, 1, "keep")), False)
 
     def test_shown_to(self):
         self.assertEqual([alarms.shown_to(KEEP, 1, age) for age in (0, 1, 2, 3, 4, 5, 10 ** 99)],
@@ -122,7 +123,8 @@ class Watches(unittest.TestCase):
                          ([([], []), ([(4, 1, 1)], []), ([(4, 0, 0)], []), ([(1, 1, 3)], [])],
                           ((), (0, -1, 0))))
         for wrong, at in [(None, 0), ({}, 0), ([((1, 4), (1,))], 0), (ticks[:2] + [((4,), (0,))], 2), ([((), ()), ()], 1),
-                          ([((), ()), [(), ()]], 1), ([((), ()), ((), ()), ((1, 1), ())], 2), (ticks + [None, None], 4)]:
+                          ([((), ()), [(), ()]], 1), ([((), ()), ((), ()), ((1, 1), ())], 2),
+                          ([((),)], 0), ([((), (), ())], 0), ([()], 0), (ticks + [None, None], 4)]:
             with self.assertRaises(errors.BadTick) as caught:
                 alarms.watched(KEEP, wrong)
             self.assertEqual(caught.exception.at, at)

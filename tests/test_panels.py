@@ -66,6 +66,8 @@ class Partings(unittest.TestCase):
                           ((4,), SAFES + ("day",)), ((4, 0), "yes"), ((4, 4), "any"), ((4, 2), None)]:
             self.assertIs(panels.is_parting(text, put(PARTING, path, new)), False, (path, new))
         self.assertIs(panels.is_parting(text, PARTING + ((),)), False)
+        self.assertIs(panels.is_parting(text, ("parting", 1, (0,) * 13, 2, SAFES)), False)
+        self.assertIs(panels.is_parting(text, ("parting", 2, (0,) * 13, 2, SAFES)), True)
 
     def places(self, *made):
         return panels.places(text_with(*made), PARTING)
