@@ -21,22 +21,28 @@ def course_of_least(table, household):
     return (best[1], table.moves_from(best[1], crowd))
 
 
-def is_all_within(one, other):
-    return all([number <= most for number, most in zip(one, other)])
-
-
-def least_households(table):
-    """The least households that can meet the loads, by how many persons they are, then ascending."""
+def outside_households(table):
+    """The households of all least crowds of begins that are outside as a whole."""
     inner = range(1, len(areas_of(table.building)))
     found = {}
     for begin in table.web[1]:
         for crowd in table.least_at(begin, table.rounds):
             if not any([row[at] for row in crowd for at in inner]):
                 found[tuple([row[0] for row in crowd])] = True
+    return list(found)
+
+
+def least_households(table):
+    """The least households that can meet the loads, by how many persons they are, then ascending."""
+    guards = table.packing.guards
     kept = []
-    for _, household in sorted([(sum(household), household) for household in found]):
-        if not any([is_all_within(less, household) for less in kept]):
+    wholes = []
+    for _, household in sorted([(sum(household), household) for household in outside_households(table)]):
+        whole = table.packing.packed(outside_crowd(table.building, household))
+        top = whole | guards
+        if not [less for less in wholes if (top - less) & guards == guards]:
             kept.append(household)
+            wholes.append(whole)
     return kept
 
 
@@ -90,10 +96,20 @@ def is_box_within(one, other):
 
 
 def cut_boxes(box, household):
-    """The greatest boxes within a box in which no household has this one within it."""
-    if not all([is_below(number, most) for number, most in zip(household, box)]):
-        return [box]
+    """The greatest boxes within a box that do not have this household of it."""
     return [box[:at] + (household[at] - 1,) + box[at + 1:] for at in range(len(box)) if household[at] > 0]
+
+
+def without_household(found, household):
+    """The greatest boxes within some boxes in which no household has this one within it.
+
+    A box that stays is within no part of another one, as it was not within that one.
+    """
+    staying = [box for box in found if not is_box_within(household, box)]
+    parts = {part: True for box in found if is_box_within(household, box) for part in cut_boxes(box, household)}
+    over = staying + list(parts)
+    return staying + [part for part in parts
+                      if not any([part != other and is_box_within(part, other) for other in over])]
 
 
 def box_place(box):
@@ -106,10 +122,8 @@ def boxes(table):
     check_table(table)
     found = [(MANY,) * len(kinds_of(table.building))]
     for household in least_households(table):
-        parts = {part: True for box in found for part in cut_boxes(box, household)}
-        cut = sorted(parts, key=box_place)
-        found = [box for box in cut if not any([box != other and is_box_within(box, other) for other in cut])]
-    return found
+        found = without_household(found, household)
+    return sorted(found, key=box_place)
 
 
 def still_safe(table, place, crowds):

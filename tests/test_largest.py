@@ -120,6 +120,12 @@ class Largest(unittest.TestCase):
             tables.Table(TOWER, ("web", (0,), two), (lot, ()), 20000)
         self.assertEqual(len(crowds.least_crowds(TOWER, lot)), 400)
 
+    def test_hundreds_of_least_households(self):
+        lot = tuple(((at, 0, 0, 0, 0, 0), (399 - at, 0, 0, 0, 0, 0), (0,) * 6) for at in range(400))
+        table = tables.Table(TOWER, ("web", (0, 1), ((), ())), (lot, ()), 400)
+        self.assertEqual(households.households_of(table), [((at, 399 - at, 0), (0, [])) for at in range(400)])
+        self.assertEqual(households.boxes(table), [(at, 398 - at, "many") for at in range(399)])
+
     def test_others(self):
         names = [door[0] for door in DOORS]
         cut, rows = ways.parting(TOWER, names, "out", "c")
