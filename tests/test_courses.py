@@ -5,7 +5,7 @@ import unittest
 from helper import HOUSE, put
 from housekept import courses, crowds, errors
 
-WEB = ("web", (0, 1),
+WEB = ("web", (0,),
        (((("in",), ("guest", "out"), ("guest", "hall"), 1), (("tick",), None, None, 0),
          (("show",), ("staff", "out"), ("staff", "out"), 0)),
         ((("on",), ("guest", "hall"), ("guest", "lab"), 0), (("tick",), None, None, 1))))

@@ -87,7 +87,7 @@ class Households(unittest.TestCase):
         for value in (good, (0, tuple(good[1]))):
             self.assertIs(households.is_break(HOUSE, WEB, LOADS, (2, 0), value), True)
         for household, value in [((1, 0), good), ((2, 0), list(good)), ((2, 0), (0, good[1][:2])), ((2, 0), (1, good[1])),
-                                 ((2, 0), (False, good[1])), ((2, 0), (0, None)), ((2, 0), (0, good[1], 1)), ((2, 0), (2, [])),
+                                 ((2, 0), (False, good[1])), ((2, 0), (0, None)), ((2, 0), (0, good[1], 1)), ((2, 0), (2, [])), ((2, 0), (0,)), ((2, 0), ()),
                                  ((2, 0), (0, good[1][:3] + [put(ON, (3,), False)])), ((2, 0), (0, good[1] + [IN]))]:
             self.assertIs(households.is_break(HOUSE, WEB, LOADS, household, value), False)
         self.assertIs(households.is_break(HOUSE, WEB, LOADS, (3, 3), (0, good[1] + [WEB[2][0][1]])), True)
