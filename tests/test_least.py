@@ -149,6 +149,25 @@ class Least(unittest.TestCase):
             same = least.alike(machine, moved, ("doors", "words")) is None
             self.assertEqual(same, names[at] == names[0])
 
+    def test_refining_any_lots(self):
+        """The refining by itself, over random next standings: the same lots as by parting all again and again."""
+        for seed in range(400):
+            rand = seeded(seed)
+            many, signals = rand.randint(1, 30), rand.randint(1, 3)
+            near = rand.choice([1, 3, many])
+            nexts = [[min(many - 1, max(0, at + rand.randint(-near, near))) for _ in range(signals)] for at in range(many)]
+            firsts = [0] + [rand.choice([0, 0, 0, 0, 1]) for _ in range(many - 1)]
+            refined = least.Classes(nexts, list(firsts))
+            refined.refine()
+            lots = firsts
+            while True:
+                keys = [(lots[at], tuple(lots[behind] for behind in row)) for at, row in enumerate(nexts)]
+                fresh = [keys.index(key) for key in keys]
+                if len(set(fresh)) == len(set(lots)):
+                    break
+                lots = fresh
+            self.assertEqual([refined.lots.index(lot) for lot in refined.lots], [lots.index(lot) for lot in lots])
+
     def test_greatest_machine(self):
         machine = machines.Machine(four_thousand(False), BUTTONS)
         self.assertEqual(len(least.least(machine, ("doors", "words"))), 1)
