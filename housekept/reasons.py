@@ -74,14 +74,19 @@ def least_chain(program, rounds, thing):
     return tuple(chain)
 
 
-def reason(text, standing, signal, thing):
-    """The least reason for a thing at a signal."""
+def checked_rounds(text, standing, signal, thing):
+    """The text made ready to run, and the rounds up to the last one that changes the thing."""
     scope = check_text(text)
     check_standing(scope, standing)
     check_signal(scope, signal)
     check_thing(scope, thing)
     program = Program(text)
-    rounds = telling_rounds(program, program.slots.flat(standing), signal, thing)
+    return program, telling_rounds(program, program.slots.flat(standing), signal, thing)
+
+
+def reason(text, standing, signal, thing):
+    """The least reason for a thing at a signal."""
+    program, rounds = checked_rounds(text, standing, signal, thing)
     return least_chain(program, rounds, thing) if rounds else ()
 
 
@@ -97,12 +102,7 @@ def is_link(program, row, pair):
 
 def is_reason(text, standing, signal, thing, value):
     """Whether a value is a reason, or () where there is none."""
-    scope = check_text(text)
-    check_standing(scope, standing)
-    check_signal(scope, signal)
-    check_thing(scope, thing)
-    program = Program(text)
-    rounds = telling_rounds(program, program.slots.flat(standing), signal, thing)
+    program, rounds = checked_rounds(text, standing, signal, thing)
     if not is_tuple(value, len(rounds), len(rounds)):
         return False
     if not all([is_link(program, row, pair) for row, pair in zip(rounds, value)]):
