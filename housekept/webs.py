@@ -2,7 +2,7 @@
 from housekept.buildings import doors_of, is_name, kinds_of, side_area
 from housekept.errors import BadLabels, BadWeb
 from housekept.machines import check_machine
-from housekept.shapes import are_indexes, are_unlike, is_between, is_row, is_tuple
+from housekept.shapes import are_indexes, are_unlike, is_row, is_tuple
 
 PLACES = 20000
 

@@ -144,6 +144,11 @@ class Modules(Case):
                 for name in names:
                     self.assertIn(name, top_names(TREES[other]), f"{stem} imports {name}")
 
+    def test_imports_are_used(self):
+        for stem, tree in TREES.items():
+            used = {node.id for node in ast.walk(tree) if isinstance(node, ast.Name)}
+            self.assertEqual([name for name in imported(tree) if name not in used], [], stem)
+
     def test_imports_only_from_files_listed_before(self):
         for stem, tree in TREES.items():
             for node in tree.body:
