@@ -170,8 +170,9 @@ def parting_row(one, other, looks):
     numbering = Numbering()
     _, first = look_rows(one, looks, numbering)
     _, second = look_rows(other, looks, numbering)
-    merged = Merged(len(one) + len(other))
-    merged.merge(0, len(one))
+    many = len(one)
+    merged = Merged(many + len(other))
+    merged.merge(0, many)
     met = [(0, 0, None)]
     at = 0
     while at < len(met):
@@ -180,7 +181,8 @@ def parting_row(one, other, looks):
             unlike = [place for place in range(len(one.signals)) if first[here][place] != second[there][place]]
             return row_along(one, met, at, unlike[0])
         for place, (behind, beside) in enumerate(zip(one.nexts[here], other.nexts[there])):
-            if merged.merge(behind, len(one) + beside):
+            # Most signals lead nowhere: their pair is the one that stands here.
+            if (behind != here or beside != there) and merged.merge(behind, many + beside):
                 met.append((behind, beside, (at, place)))
         at += 1
     return None
