@@ -2,8 +2,8 @@
 import itertools
 import unittest
 
-from helper import HOUSE, PLAIN, SMALL, put, seeded
-from housekept import crowds, errors, households, machines, promises, tables, webs
+from helper import HOUSE, PLAIN, SMALL, put, random_building, seeded
+from housekept import crowds, errors, households, machines, promises, rights, tables, webs
 from test_promises import IN, ON, WEB, met_by, random_promise, random_web
 from test_tables import LOADS
 
@@ -140,6 +140,29 @@ class Households(unittest.TestCase):
                     known.add(behind)
                     met.append(behind)
         return False
+
+    def test_plain_texts_are_broken_by_companies_of_helpers(self):
+        """Where each door is freed by rights alone, the least households are told by companies alone."""
+        several = 0
+        for seed in range(60):
+            rand = seeded(seed)
+            building = random_building(rand, rand.randint(2, 4), rand.randint(1, 3), rand.randint(1, 3))
+            made = []
+            for door, _, _, _ in building[2]:
+                made.append((("card", door, "any", "any"), ("right",), (("let", door, "free"),)))
+                made.append((("pass", door, "any"), ("always",), (("let", door, "shut"),)))
+                made.append((("tick",), ("always",), (("let", door, "shut"),)))
+            machine = machines.Machine(("text", building, (), (), (), tuple(made)), ("world", (), (), (), 0))
+            web = webs.web_of(machine)
+            for kind, area in itertools.product(building[3], building[1][1:]):
+                many = rand.randint(1, 2)
+                promise = ("never", tuple(range(len(machine))), ((kind, area, many),))
+                found = [one for one, _ in households.households(building, web, promise)]
+                lots = [tuple(many if one == kind else int(one in company) for one in building[3])
+                        for company in rights.helpers(building, kind, area)]
+                self.assertEqual(found, sorted(lots, key=lambda one: (sum(one), one)))
+                several += len(found) > 1
+        self.assertGreater(several, 0)
 
     def test_against_walking_forwards(self):
         small = list(itertools.product(range(4), repeat=2))
