@@ -102,10 +102,14 @@ def check_door(building, door):
         raise BadDoor("this is no door of the building")
 
 
+def check_side(side):
+    if not is_between(side, 0, 1):
+        raise BadSide("this is no side of a door")
+
+
 def area_at(building, door, side):
     """The area at a side of a door."""
     check_building(building)
     check_door(building, door)
-    if not is_between(side, 0, 1):
-        raise BadSide("this is no side of a door")
+    check_side(side)
     return side_area(building, door, side)

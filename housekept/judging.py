@@ -8,8 +8,12 @@ from housekept.rules import DEEP, check_text, is_condition
 from housekept.shapes import are_indexes, is_row, lots_below
 
 
+def is_question(scope, value):
+    return is_condition(scope, value, DEEP, True)
+
+
 def check_question(scope, question):
-    if not is_condition(scope, question, DEEP, True):
+    if not is_question(scope, question):
         raise BadQuestion("this is no question about the text")
 
 

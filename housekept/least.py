@@ -161,8 +161,8 @@ def row_along(machine, met, at, place):
     return row[::-1]
 
 
-def parting_row(one, other, looks):
-    """The least row that two machines answer unlike, None if they are alike.
+def parting_row(one, other, looks, begins=(0, 0)):
+    """The least row that two machines answer unlike from these standings, None if they are alike.
 
     Pairs are met by their least rows. One within the lots merged so far is left out: what parts
     it parts, behind a lesser row, one of the pairs that merged them.
@@ -172,8 +172,8 @@ def parting_row(one, other, looks):
     _, second = look_rows(other, looks, numbering)
     many = len(one)
     merged = Merged(many + len(other))
-    merged.merge(0, many)
-    met = [(0, 0, None)]
+    merged.merge(begins[0], many + begins[1])
+    met = [(begins[0], begins[1], None)]
     at = 0
     while at < len(met):
         here, there, _ = met[at]
@@ -188,11 +188,15 @@ def parting_row(one, other, looks):
     return None
 
 
+def check_same_signals(one, other):
+    if one.signals != other.signals:
+        raise UnlikeSignals("the worlds have unlike signals")
+
+
 def alike(one, other, looks):
     """None if two machines answer all rows alike, otherwise the least row that they do not."""
     check_machine(one)
     check_machine(other)
     check_looks(looks)
-    if one.signals != other.signals:
-        raise UnlikeSignals("the worlds have unlike signals")
+    check_same_signals(one, other)
     return parting_row(one, other, looks)

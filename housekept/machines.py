@@ -179,15 +179,18 @@ class Tails:
 class Walk:
     """The walk by which the standings of a machine are met."""
 
-    def __init__(self, text, world, start):
+    def __init__(self, text, world, starts, most):
         self.program = Program(text)
         self.tails = Tails(self.program)
         self.faults = world[4]
+        self.most = most
         self.signals = world_signals(self.program.slots.scope, world)
         self.plans = self.plans_of()
-        self.flats = [self.program.slots.flat(start)]
-        self.numbers = {self.flats[0]: 0}
-        self.parents = [None]
+        self.flats = []
+        self.numbers = {}
+        self.parents = []
+        for start in starts:
+            self.numbered(self.program.slots.flat(start), None)
         self.nexts = []
         self.says = []
         self.said = [((), False)]
@@ -256,16 +259,21 @@ class Walk:
         if told not in self.said_numbers:
             self.said_numbers[told] = len(self.said)
             self.said.append(told)
-        return (self.numbered(flat if tail.end is None else tail.end, at, number), self.said_numbers[told])
+        behind = self.numbered(flat if tail.end is None else tail.end, (at, number))
+        return (behind, self.said_numbers[told])
 
-    def numbered(self, flat, at, number):
+    def numbered(self, flat, parent):
         if flat not in self.numbers:
-            if len(self.flats) == STANDINGS:
-                raise TooMany(STANDINGS)
+            if len(self.flats) == self.most:
+                raise TooMany(self.most)
             self.numbers[flat] = len(self.flats)
             self.flats.append(flat)
-            self.parents.append((at, number))
+            self.parents.append(parent)
         return self.numbers[flat]
+
+    def door_rows(self):
+        """For each standing how each door stands."""
+        return [self.program.slots.stands(flat) for flat in self.flats]
 
 
 class Machine:
@@ -276,9 +284,9 @@ class Machine:
         check_world(scope, world)
         if start is not None and not is_standing_of(scope, start):
             raise BadStanding("this is no standing of the text")
-        walk = Walk(text, world, begin(text) if start is None else start)
+        walk = Walk(text, world, [begin(text) if start is None else start], STANDINGS)
         walk.walk()
-        self.text = text
+        self.source = text
         self.world = world
         self.slots = walk.program.slots
         self.signals = walk.signals
@@ -289,9 +297,14 @@ class Machine:
         self.nexts = walk.nexts
         self.says = walk.says
         self.said = walk.said
-        self.doors = [self.slots.stands(flat) for flat in walk.flats]
+        self.doors = walk.door_rows()
         self.firsts = walk.firsts
         self.first_endless = walk.endless
+
+    @property
+    def text(self):
+        """The text as it was handed in."""
+        return self.source
 
     def __len__(self):
         return len(self.flats)

@@ -106,13 +106,10 @@ def named_variables(rule):
     return names + [rule[0][1]] if rule[0][0] == "becomes" else names
 
 
-def lines(text, parting):
-    """The triples (owner, reader, indexes of variables) of what panels read of others."""
-    scope = check_text(text)
-    check_parting(scope, parting)
-    owners = Owners(scope, parting)
+def lines_between(owners, text, panels):
+    """The lines of a text whose rules lie at these panels."""
     read = {}
-    for reader, rule in zip(rule_panels(owners, text, parting), text[5]):
+    for reader, rule in zip(panels, text[5]):
         for name in named_variables(rule):
             owner = owners.panels[("variable", name)]
             if owner != reader:
@@ -121,12 +118,24 @@ def lines(text, parting):
     return tuple([(owner, reader, tuple(sorted(read[(owner, reader)]))) for owner, reader in sorted(read)])
 
 
+def text_at(text, panels, panel):
+    """The text with the rules of one panel; with a rule that never fires if there are none."""
+    rules = [rule for rule, where in zip(text[5], panels) if where == panel]
+    return with_rules(text, rules if rules else [MUTE])
+
+
+def lines(text, parting):
+    """The triples (owner, reader, indexes of variables) of what panels read of others."""
+    scope = check_text(text)
+    check_parting(scope, parting)
+    owners = Owners(scope, parting)
+    return lines_between(owners, text, rule_panels(owners, text, parting))
+
+
 def panel_text(text, parting, panel):
-    """The text with the rules that lie at a panel; with a rule that never fires if there are none."""
+    """The text with the rules that lie at a panel."""
     scope = check_text(text)
     check_parting(scope, parting)
     if not is_between(panel, 0, parting[1] - 1):
         raise BadPanel("this is no panel")
-    panels = rule_panels(Owners(scope, parting), text, parting)
-    rules = [rule for rule, where in zip(text[5], panels) if where == panel]
-    return with_rules(text, rules if rules else [MUTE])
+    return text_at(text, rule_panels(Owners(scope, parting), text, parting), panel)

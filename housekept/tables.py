@@ -16,29 +16,37 @@ class Entry:
         self.died = None
 
 
+def effects_of(place, moves):
+    """What moves of a place do, each once: (need, there, next place)."""
+    found = {}
+    for _, need, there, behind in moves:
+        # Where a move stays, and nobody goes, no crowd less than the one behind it leads on.
+        if behind != place or need != there:
+            found[(need, there, behind)] = True
+    return list(found)
+
+
+def sources_of(moves_by_place):
+    """For each place the moves that lead to it: (place, need, there)."""
+    found = [[] for _ in moves_by_place]
+    for place, moves in enumerate(moves_by_place):
+        for need, there, behind in effects_of(place, moves):
+            found[behind].append((place, need, there))
+    return found
+
+
 class Rounds:
     """The rounds of a table: each goes back along the moves from what was new in the one ahead."""
 
-    def __init__(self, web, packing, most):
+    def __init__(self, sources, packing, most):
         self.packing = packing
         self.most = most
         self.many = 0
-        self.sources = [[] for _ in web[2]]
-        self.entries = [[] for _ in web[2]]
-        self.living = [{} for _ in web[2]]
-        self.lowest = [Lowest(packing.guards) for _ in web[2]]
-        for place, moves in enumerate(web[2]):
-            for need, there, behind in self.effects_of(place, moves):
-                self.sources[behind].append((place, need, there))
-
-    def effects_of(self, place, moves):
-        """What moves of a place do, each once: (need, there, next place)."""
-        found = {}
-        for _, need, there, behind in moves:
-            # Where a move stays, and nobody goes, no crowd less than the one behind it leads on.
-            if behind != place or need != there:
-                found[(need, there, behind)] = True
-        return list(found)
+        self.counts = []
+        self.sources = sources
+        self.entries = [[] for _ in sources]
+        self.living = [{} for _ in sources]
+        self.lowest = [Lowest(packing.guards) for _ in sources]
 
     def before(self, fresh):
         """For each place the crowds from which moves lead to the fresh ones, with their totals."""
@@ -73,8 +81,6 @@ class Rounds:
                 if not self.lowest[place].lies_above(whole, totals):
                     self.put(place, whole, totals, born)
                     fresh.append((place, whole, totals))
-        if self.many > self.most:
-            raise TooMany(self.most)
         return fresh
 
     def put(self, place, whole, totals, born):
@@ -87,64 +93,56 @@ class Rounds:
         self.entries[place].append(living[whole])
         self.many += 1 - len(gone)
 
-    def close(self, loads):
-        """Go through all rounds; the number of the last one in which something is new."""
-        found = {place: {self.packing.packed(load): totals_of(load) for load in crowds}
-                 for place, crowds in enumerate(loads)}
-        fresh = self.take(found, 0)
-        number = -1
-        while fresh:
+    def packed(self, crowds):
+        """Crowds as wholes, each with how many persons of each kind it has."""
+        return {self.packing.packed(crowd): totals_of(crowd) for crowd in crowds}
+
+    def close(self, seeds, elsewhere):
+        """Go through all rounds; the number of the last one in which something is new.
+
+        seeds: for each of the first rounds, by places, crowds that are taken in there, whatever moves lead to
+        them. elsewhere: how many least crowds other places have in the first rounds, the last number staying.
+        """
+        fresh = []
+        last, number = 0, 0
+        while fresh or number < max(len(seeds), len(elsewhere)):
+            found = self.before(fresh)
+            if number < len(seeds):
+                for place in seeds[number]:
+                    found.setdefault(place, {}).update(seeds[number][place])
+            fresh = self.take(found, number)
+            self.counts.append(self.many)
+            if self.many + elsewhere[min(number, len(elsewhere) - 1)] > self.most:
+                raise TooMany(self.most)
+            if fresh:
+                last = number
             number += 1
-            fresh = self.take(self.before(fresh), number + 1)
-        return max(number, 0)
+        return last
 
 
-class Table:
-    """The least crowds from which loads can be met in so many moves, for all places of a web."""
+class Closed:
+    """For each place of a web the least crowds from which loads can be met, with the rounds in which they are least."""
 
-    def __init__(self, building, web, loads, most):
-        check_building(building)
-        check_building_web(building, web)
-        check_loads(building, web, loads)
-        check_most(most)
+    def __init__(self, building, web, packing, entries, rounds):
         self.building = building
         self.web = web
-        self.loads = loads
-        self.packing = Packing(building, greatest_number([crowd for crowds in loads for crowd in crowds]))
-        closing = Rounds(web, self.packing, most)
-        self.rounds = closing.close(loads)
-        self.entries = closing.entries
-
-    def least(self, place, k):
-        """The least crowds of a place from which at most k moves are needed."""
-        check_place(self.web, place)
-        if not is_from(k, 0):
-            raise BadRound("this is no number of a round")
-        return self.least_at(place, k)
+        self.packing = packing
+        self.entries = entries
+        self.rounds = rounds
 
     def least_at(self, place, k):
         wholes = [entry.whole for entry in self.entries[place]
                   if entry.born <= k and (entry.died is None or entry.died > k)]
         return [self.packing.crowd(whole) for whole in sorted(wholes)]
 
-    def paper(self):
-        """The least crowds of all places from which the loads can be met at all."""
-        return tuple([tuple(self.least_at(place, self.rounds)) for place in range(len(self.web[2]))])
-
     def left_of(self, place, crowd):
-        """As left, of what is known to be right: entries stand in the order in which they were born."""
+        """How many moves are left, at least; None without end: entries stand in the order in which they were born."""
         guards = self.packing.guards
         top = self.packing.packed(crowd) | guards
         for entry in self.entries[place]:
             if (top - entry.whole) & guards == guards:
                 return entry.born
         return None
-
-    def left(self, place, crowd):
-        """How many moves are left, at least, until the loads are met; None if they never are."""
-        check_place(self.web, place)
-        check_crowd(self.building, crowd)
-        return self.left_of(place, crowd)
 
     def move_from(self, place, crowd):
         """The first move that leaves one move less, and the crowd behind it; None if there is none."""
@@ -157,15 +155,8 @@ class Table:
                 return (move, behind)
         return None
 
-    def next_move(self, place, crowd):
-        """The first move of a place that leaves one move less, None where none is left."""
-        check_place(self.web, place)
-        check_crowd(self.building, crowd)
-        found = self.move_from(place, crowd)
-        return None if found is None else found[0]
-
     def moves_from(self, place, crowd):
-        """As moves_left, of what is known to be right."""
+        """The least list of moves to where the loads are met, None if there is none."""
         if self.left_of(place, crowd) is None:
             return None
         moves = []
@@ -175,6 +166,46 @@ class Table:
             moves.append(move)
             found = self.move_from(move[3], crowd)
         return moves
+
+
+class Table(Closed):
+    """The least crowds from which loads can be met in so many moves, for all places of a web."""
+
+    def __init__(self, building, web, loads, most):
+        check_building(building)
+        check_building_web(building, web)
+        check_loads(building, web, loads)
+        check_most(most)
+        packing = Packing(building, greatest_number([crowd for crowds in loads for crowd in crowds]))
+        closing = Rounds(sources_of(web[2]), packing, most)
+        seeds = {place: closing.packed(crowds) for place, crowds in enumerate(loads)}
+        rounds = closing.close([seeds], [0])
+        Closed.__init__(self, building, web, packing, closing.entries, rounds)
+        self.loads = loads
+
+    def least(self, place, k):
+        """The least crowds of a place from which at most k moves are needed."""
+        check_place(self.web, place)
+        if not is_from(k, 0):
+            raise BadRound("this is no number of a round")
+        return self.least_at(place, k)
+
+    def paper(self):
+        """The least crowds of all places from which the loads can be met at all."""
+        return tuple([tuple(self.least_at(place, self.rounds)) for place in range(len(self.web[2]))])
+
+    def left(self, place, crowd):
+        """How many moves are left, at least, until the loads are met; None if they never are."""
+        check_place(self.web, place)
+        check_crowd(self.building, crowd)
+        return self.left_of(place, crowd)
+
+    def next_move(self, place, crowd):
+        """The first move of a place that leaves one move less, None where none is left."""
+        check_place(self.web, place)
+        check_crowd(self.building, crowd)
+        found = self.move_from(place, crowd)
+        return None if found is None else found[0]
 
     def moves_left(self, place, crowd):
         """The least list of moves to where the loads are met, None if there is none."""

@@ -47,16 +47,21 @@ def all_ways(building, free, area, other):
     return found
 
 
-def joined(building, free):
-    """The tuples of the areas among which there are ways."""
-    check_building(building)
-    check_free(building, free)
+def areas_joined(building, free):
+    """As joined, of what is known to be right."""
     groups = []
     for area in areas_of(building):
         group = tuple(reached_from(building, free, area))
         if group not in groups:
             groups.append(group)
     return groups
+
+
+def joined(building, free):
+    """The tuples of the areas among which there are ways."""
+    check_building(building)
+    check_free(building, free)
+    return areas_joined(building, free)
 
 
 def least_way(building, free, area, other):

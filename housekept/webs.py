@@ -1,5 +1,5 @@
 """Webs: places, and moves between them, some of which need a person somewhere."""
-from housekept.buildings import doors_of, is_name, kinds_of, side_area
+from housekept.buildings import door_names, doors_of, is_name, kinds_of
 from housekept.errors import BadLabels, BadWeb
 from housekept.machines import check_machine
 from housekept.shapes import are_indexes, are_unlike, is_row, is_tuple
@@ -50,44 +50,39 @@ def check_web(web):
         raise BadWeb("this is no web")
 
 
-def passages(building):
-    """For each kind and each side of a door: (kind, door, side, the spot here, the spot behind)."""
-    rows = []
-    for kind in kinds_of(building):
-        for door in doors_of(building):
-            for side in (0, 1):
-                here, behind = side_area(building, door[0], side), side_area(building, door[0], 1 - side)
-                rows.append((kind, door[0], side, (kind, here), (kind, behind)))
+def person_moves(building):
+    """Shows and goes in order: (label, need, there, signal, the door that must stand free or None)."""
+    sides = [(kind, door, side) for kind in kinds_of(building) for door in doors_of(building) for side in (0, 1)]
+    rows = [(("show", kind, door[0], side), (kind, door[1 + side]), (kind, door[1 + side]),
+             ("card", door[0], side, kind), None) for kind, door, side in sides]
+    rows.extend([(("go", kind, door[0], side), (kind, door[1 + side]), (kind, door[2 - side]),
+                  ("pass", door[0], side), door[0]) for kind, door, side in sides])
     return rows
 
 
-def show_moves(machine, rows):
-    """The moves by cards, alike at all standings but for where they lead: (label, need, there, signal's place)."""
-    return [(("show", kind, door, side), here, here, machine.places[("card", door, side, kind)])
-            for kind, door, side, here, _ in rows]
+def moves_of(building, signals, nexts, doors, first):
+    """For each standing the tuple of its moves.
 
-
-def go_moves(machine, rows):
-    """The same of the moves through doors, with the door's place in front."""
-    names = machine.slots.doors
-    return [(names.index(door), ("go", kind, door, side), here, behind, machine.places[("pass", door, side)])
-            for kind, door, side, here, behind in rows]
+    nexts: the standings behind all signals; doors: how the doors stand; first: the place of standing 0.
+    """
+    places = {signal: at for at, signal in enumerate(signals)}
+    names = door_names(building)
+    persons = [(None if door is None else names.index(door), label, need, there, places[signal])
+               for label, need, there, signal, door in person_moves(building)]
+    others = [(signal, places[signal]) for signal in signals if signal[0] not in ("card", "pass")]
+    found = []
+    for behind, standing in zip(nexts, doors):
+        here = [(label, need, there, first + behind[place]) for door, label, need, there, place in persons
+                if door is None or standing[door] == "free"]
+        here.extend([(signal, None, None, first + behind[place]) for signal, place in others])
+        found.append(tuple(here))
+    return found
 
 
 def web_of(machine):
     """The web of a machine's persons."""
     check_machine(machine)
-    rows = passages(machine.text[1])
-    shows, goes = show_moves(machine, rows), go_moves(machine, rows)
-    others = [(signal, machine.places[signal]) for signal in machine.signals if signal[0] not in ("card", "pass")]
-    moves = []
-    for nexts, doors in zip(machine.nexts, machine.doors):
-        here = [(label, need, there, nexts[place]) for label, need, there, place in shows]
-        here.extend([(label, need, there, nexts[place]) for door, label, need, there, place in goes
-                     if doors[door] == "free"])
-        here.extend([(signal, None, None, nexts[place]) for signal, place in others])
-        moves.append(tuple(here))
-    return ("web", (0,), tuple(moves))
+    return ("web", (0,), tuple(moves_of(machine.text[1], machine.signals, machine.nexts, machine.doors, 0)))
 
 
 def leading(web):

@@ -3,7 +3,7 @@ import copy
 import itertools
 import random
 
-from housekept import errors, machines, rules, tables
+from housekept import bench, comfort, errors, machines, rules, tables
 
 HOUSE = ("building", ("out", "hall", "lab"),
          (("front", "out", "hall", "gate"), ("inner", "hall", "lab", "leaf")),
@@ -304,10 +304,13 @@ def any_values():
     """Values of all sorts: hardly anything here is what some parameter of the package expects."""
     machine = machines.Machine(PLAIN, ("world", (), (), (), 0))
     table = tables.Table(SMALL, ("web", (0,), ((),)), ((),), 1)
+    desk = bench.Bench(PLAIN, [1])
+    warm = comfort.Comfort(("air", (("room", 0, 1, 0),), 1, (), (), (0, 0, 0, 0)), ((),), ((),))
     return [None, True, False, -1, 10 ** 99, "", "any", "Front", "x" * 20000, "no such", [], (), {}, [[]], ([],), {"a": []},
             [None], (None,), (True,), [True], ("tick", 1), ("text",), ["any"], ("any",), deep_value(), (deep_value(),),
             ("card", [], {}, ()), ("becomes", {}, []), ("is", [], []), ("never", (), [[]]), ("shut", ["free"]),
             ("building", (), (), (), ()), ("text", None, (), (), (), ()), ("world", (), (), (), True), machine, table,
+            desk, warm, (desk,), [[warm]], ("never", desk, ()),
             [machine], (table, table), ({},), [{}], errors.BadArea("no"), "Seven", ({"a": ()}, 2), (1, [2]),
             "\u00e9", "a b", [10 ** 99], (10 ** 99,), {1: 2}, {(): ()}]
 

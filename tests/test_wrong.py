@@ -170,8 +170,10 @@ def is_right(value, rights):
 
 
 class Wrong(unittest.TestCase):
+    calls, named, lists = CALLS, NAMED, LISTS
+
     def told(self, name, special):
-        return special.get(name) or NAMED.get(name)
+        return special.get(name) or self.named.get(name)
 
     def check(self, call, args, error, fields, said):
         with self.assertRaises(errors.KeptError, msg=said) as caught:
@@ -181,7 +183,7 @@ class Wrong(unittest.TestCase):
             self.assertEqual(getattr(caught.exception, field), fields[field], said)
 
     def each_parameter(self):
-        for call, args, special in CALLS:
+        for call, args, special in self.calls:
             for name in args:
                 if self.told(name, special) is not None:
                     yield call, args, special, name
@@ -222,7 +224,7 @@ class Wrong(unittest.TestCase):
             value = args[name]
             if type(value) not in (int, list, tuple):
                 continue
-            free = [()] if name in LISTS else []
+            free = [()] if name in self.lists else []
             for path, item in helper.nodes(value):
                 new = []
                 if type(item) is tuple and path not in free:
@@ -234,7 +236,7 @@ class Wrong(unittest.TestCase):
                     self.check(call, wrong, error, {}, f"{call.__name__} {name} {path} {one}")
 
     def test_truths_and_lists_are_seen_by_questions_too(self):
-        for call, args, _ in CALLS:
+        for call, args, _ in self.calls:
             if call.__name__.startswith("is_") and "value" in args:
                 value = args["value"]
                 for path, item in helper.nodes(value):
@@ -247,7 +249,7 @@ class Wrong(unittest.TestCase):
                         self.assertIs(call(**{**args, "value": wrong}), False, f"{call.__name__} {path}")
 
     def test_any_value_in_questions(self):
-        for call, args, _ in CALLS:
+        for call, args, _ in self.calls:
             if "value" not in args or call is rules.fault or call == MACHINE.number:
                 continue
             for value in helper.any_values():
@@ -262,26 +264,28 @@ class Wrong(unittest.TestCase):
 
 
 class Results(unittest.TestCase):
+    calls = CALLS
+
     def test_by_position_and_by_name(self):
-        for call, args, _ in CALLS:
+        for call, args, _ in self.calls:
             if call not in (machines.Machine, tables.Table):
                 self.assertTrue(same(call(*args.values()), call(**args)), call.__name__)
 
     def test_nothing_passed_in_is_changed(self):
-        for call, args, _ in CALLS:
+        for call, args, _ in self.calls:
             plain = {name: value for name, value in args.items() if helper.is_plain(value)}
             kept = copy.deepcopy(plain)
             call(**args)
             self.assertTrue(same(plain, kept), call.__name__)
 
     def test_lists_may_be_tuples(self):
-        for call, args, _ in CALLS:
+        for call, args, _ in self.calls:
             for name, value in args.items():
                 if type(value) is list:
                     self.assertTrue(same(call(**args), call(**{**args, name: tuple(value)})), call.__name__)
 
     def test_what_is_returned_is_plain_and_new(self):
-        for call, args, _ in CALLS:
+        for call, args, _ in self.calls:
             if call in (machines.Machine, tables.Table):
                 continue
             first = call(**args)
