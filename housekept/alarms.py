@@ -190,9 +190,14 @@ def shortened_age(watch, word, age):
     return min(age, (many - 1) * hand) if watch[5] == "keep" else age % (many * hand)
 
 
+def cut(watch, standing):
+    """As shortened, of what is known to be right."""
+    waiting, guards = standing
+    return (tuple([(word, shortened_age(watch, word, age)) for word, age in waiting]), guards)
+
+
 def shortened(watch, standing):
     """The standing with ages cut to what still counts for whom alarms are shown to."""
     check_watch(watch)
     check_watch_standing(watch, standing)
-    waiting, guards = standing
-    return (tuple([(word, shortened_age(watch, word, age)) for word, age in waiting]), guards)
+    return cut(watch, standing)

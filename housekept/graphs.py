@@ -137,3 +137,13 @@ def tick_ring(graph, start):
             _, back = walk_to(graph, [behind], goal_at(graph, node))
             return (row, [label] + back)
     return None
+
+
+def longest_row(graph, longest, node):
+    """Where all edges are ticks: the labels of a walk from a node with as many as can be, and its end."""
+    row = []
+    while longest[node] > 0:
+        behind, label = [(behind, label) for behind, _, label in graph[node] if longest[behind] == longest[node] - 1][0]
+        row.append(label)
+        node = behind
+    return row, node

@@ -34,7 +34,7 @@ def look_rows(machine, looks, numbering):
     """For each standing the tuple of the numbers of what counts of its answers."""
     doors = [numbering.number(("doors", row)) if "doors" in looks else 0 for row in machine.doors]
     said = [numbering.number((words if "words" in looks else (), is_endless if "endless" in looks else False))
-            for words, is_endless in machine.said]
+            for words, is_endless in machine.sayings]
     kept = Numbering()
     rows = []
     for nexts, says in zip(machine.nexts, machine.says):

@@ -193,7 +193,7 @@ class Walk:
             self.numbered(self.program.slots.flat(start), None)
         self.nexts = []
         self.says = []
-        self.said = [((), False)]
+        self.sayings = [((), False)]
         self.said_numbers = {((), False): 0}
         self.seen = 0
         self.firsts = []
@@ -257,8 +257,8 @@ class Walk:
             self.endless = (at, number)
         told = (tail.words, tail.end is None)
         if told not in self.said_numbers:
-            self.said_numbers[told] = len(self.said)
-            self.said.append(told)
+            self.said_numbers[told] = len(self.sayings)
+            self.sayings.append(told)
         behind = self.numbered(flat if tail.end is None else tail.end, (at, number))
         return (behind, self.said_numbers[told])
 
@@ -296,7 +296,7 @@ class Machine:
         self.parents = walk.parents
         self.nexts = walk.nexts
         self.says = walk.says
-        self.said = walk.said
+        self.sayings = walk.sayings
         self.doors = walk.door_rows()
         self.firsts = walk.firsts
         self.first_endless = walk.endless
@@ -329,7 +329,7 @@ class Machine:
     def stepped(self, at, place):
         """As after, of the signal with a place among the world's."""
         behind = self.nexts[at][place]
-        words, is_endless = self.said[self.says[at][place]]
+        words, is_endless = self.sayings[self.says[at][place]]
         return (behind, (self.doors[behind], words, is_endless))
 
     def row_to(self, at):

@@ -123,7 +123,7 @@ class Healing:
     def __init__(self, other, looks):
         self.many = len(other)
         self.graph, self.lots = unlike_graph(other, looks)
-        self.longest = longest_ticks(self.graph)
+        self.most_ticks = longest_ticks(self.graph)
 
     def node(self, here, there):
         return here * self.many + there
@@ -131,7 +131,7 @@ class Healing:
     def ticks(self, here, there):
         if self.lots[here] == self.lots[there]:
             return 0
-        longest = self.longest[self.node(here, there)]
+        longest = self.most_ticks[self.node(here, there)]
         return None if longest is None else longest + 1
 
     def greatest(self, here, lot):

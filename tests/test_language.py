@@ -257,7 +257,10 @@ class Names(Case):
     def test_attributes(self):
         for node, where in self.each(ast.Attribute):
             self.assertNotIn(node.attr, NEVER, where)
-            self.assertFalse(node.attr.startswith("__") and node.attr not in ("__init__",), where)
+            self.assertFalse(node.attr.startswith("__") and node.attr not in ("__init__", "__name__"), where)
+            if node.attr == "__name__":
+                self.assertRegex(ast.unparse(node), r"^type\([a-z]+\).__name__$", where)
+                continue
             if isinstance(node.ctx, ast.Store):
                 self.assertIsInstance(node.value, ast.Name, where)
                 self.assertNotIn(node.attr, NO_ATTRIBUTES, where)
@@ -306,6 +309,8 @@ class Calls(Case):
         for stem, tree in TREES.items():
             compared = [id(one) for node in ast.walk(tree) if isinstance(node, ast.Compare)
                         for one in [node.left] + node.comparators]
+            compared += [id(node.value) for node in ast.walk(tree) if isinstance(node, ast.Attribute)
+                         and node.attr == "__name__"]
             for node in ast.walk(tree):
                 if isinstance(node, ast.Call) and isinstance(node.func, ast.Name) and node.func.id == "type":
                     self.assertIn(id(node), compared, f"{stem}:{node.lineno}")

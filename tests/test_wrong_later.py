@@ -5,9 +5,9 @@ import unittest
 import helper
 import test_wrong
 from helper import BEGIN, HOUSE, PLAIN, SMALL, TEXT, WORLD
-from housekept import (bench, calendars, comfort, counts, days, errors, exchange, joined, logs, machines, readtexts, seams,
-                       tables, texts)
-from test_wrong import AIR, CROWD, MACHINE, OTHER, PARTING, SPLIT
+from housekept import (bench, calendars, comfort, counts, days, desk, errors, escapes, exchange, games, guarded, joined, logs,
+                       machines, marks, readtexts, seams, storms, tables, texts, warmth)
+from test_wrong import AIR, CROWD, MACHINE, OTHER, PARTING, SPLIT, WATCH
 
 SMALL_WORLD = ("world", (), (), (), 0)
 ONE = machines.Machine(PLAIN, SMALL_WORLD)
@@ -47,7 +47,8 @@ def controller(memory, degrees, weather):
     return (0, (memory + 1) % 10)
 
 
-NAMED = {**test_wrong.NAMED, "old": (errors.BadText, {}, ()), "new": (errors.BadText, {}, ()), "passage": (errors.BadPassage, {}, ({},)),
+NAMED = {**test_wrong.NAMED, "t": (errors.BadTicks, {}, ()), "labels": (errors.BadLabel, {}, ((),)), "hindrance": (errors.BadHindrance, {}, ()),
+         "fitting": (errors.BadFitting, {}, ((),)), "others": (errors.BadOthers, {}, ((),)), "old": (errors.BadText, {}, ()), "new": (errors.BadText, {}, ()), "passage": (errors.BadPassage, {}, ({},)),
          "needs": (errors.BadNeeds, {}, ((),)), "some": (errors.BadNumbers, {}, ((),)), "to": (errors.BadTo, {}, ()),
          "date": (errors.BadDate, {}, ()), "number": (errors.BadNumber, {}, ()), "year": (errors.BadYear, {}, ()),
          "when": (errors.BadWhen, {}, ()), "calendar": (errors.BadCalendar, {}, ()), "hour": (errors.BadHour, {}, ()),
@@ -58,6 +59,17 @@ NAMED = {**test_wrong.NAMED, "old": (errors.BadText, {}, ()), "new": (errors.Bad
          "count": (errors.BadCount, {}, ()), "areas": (errors.BadAreas, {}, ()), "greatest": (errors.BadGreatest, {}, (True, False)),
          "string": (errors.BadWord, {"line": 1, "word": 1}, ("", "any", "Front", "x" * 20000, "no such", "Seven", "\u00e9", "a b")),
          "one": (errors.BadMachine, {}, ()), "other": (errors.BadMachine, {}, ())}
+FIRE = machines.Machine(PLAIN, ("world", ("room",), (), (), 0))
+MARKED = ("web", (0, 1), (((("a", 1), None, None, 1),), ((("tick",), None, None, 0), (("b",), None, None, 1))))
+STORM = storms.Storm(WATCH)
+WARM_TEXT = PLAIN[:2] + ((("stove", ("off", "on")),),) + PLAIN[3:]
+WARM_MACHINE = machines.Machine(WARM_TEXT, ("world", (), (0,), (), 0))
+WARM_AIR = ("air", (("room", 17, 22, 20),), 10, (("room", "out", 1, None),), (("stove", "room", 30),), (0, 4, 2, 1))
+WARMTH = warmth.Warmth(WARM_MACHINE, WARM_AIR, (), ())
+GUARDED = guarded.Guarded(MACHINE, WATCH, (("button", 1), ("card", "front", 0, "guest")))
+INNER = {"area": (errors.BadArea, {}, ()), "t": (errors.BadTicks, {}, ())}
+DOOR = {"door": (errors.BadDoor, {}, ())}
+MARKS = {"one": (errors.BadMark, {}, ()), "other": (errors.BadMark, {}, ())}
 LABELS = {"row": (errors.BadLabels, None, ([], ()))}
 MAYBE = {"household": (errors.BadHousehold, {}, (None, (10 ** 99,)))}
 KEPT = {"name": (errors.NotKept, {}, ())}
@@ -104,9 +116,31 @@ CALLS = [
     (counts.crowd_course, {"text": OPEN, "eyes": ("dull", "deaf"), "row": ROW, "moment": 2, "areas": ("lab",), "greatest": False}, {}),
     (counts.is_crowd_course, {"text": OPEN, "eyes": ("dull", "deaf"), "row": ROW, "value": CROWD_COURSE}, {}),
     (counts.least_lies, {"text": OPEN, "log": LOG}, {}),
+    (escapes.aged, {"machine": FIRE, "area": "room", "most": 2}, {**INNER, "most": (errors.BadTicks, {}, ())}),
+    (escapes.free_areas, {"machine": FIRE, "at": 1, "area": "out"}, {}),
+    (escapes.bad_places, {"machine": FIRE, "area": "room", "t": 1}, INNER), (escapes.shut_in, {"machine": FIRE, "area": "room", "t": 1}, INNER),
+    (escapes.safe_after, {"machine": FIRE, "area": "room"}, INNER),
+    (escapes.safe_for, {"machine": FIRE, "area": "room", "household": (2,)}, {**INNER, "household": (errors.BadHousehold, {}, ((10 ** 99,),))}),
+    (marks.is_walk, {"web": MARKED, "value": (0, ((("a", 1), 1), (("tick",), 0)))}, {}), (marks.comes, {"web": MARKED}, {}),
+    (marks.is_mark, {"web": MARKED, "value": ((0, 1), (("tick",), ("a", 1)))}, {}),
+    (marks.mark_of, {"machine": MACHINE, "question": ("running", "lamp"), "labels": (("go", "guest", "front", 0),)}, {}),
+    (marks.free_marks, {"machine": MACHINE, "door": "front"}, DOOR),
+    (marks.open_places, {"web": MARKED, "one": ((0,), (("a", 1),)), "other": ((), (("b",),)), "t": 3}, MARKS),
+    (marks.starts, {"web": MARKED, "one": ((0,), (("a", 1),)), "other": ((), (("b",),))}, MARKS),
+    (games.way_outs, {"machine": MACHINE, "kind": "guest", "hindrance": 1}, {}),
+    (games.deeds_out, {"machine": MACHINE, "kind": "guest", "hindrance": 1, "at": 3, "area": "hall", "row": [("button", 1)]},
+     {"row": (errors.BadHinder, {}, ([], ()))}),
+    (games.hinder, {"machine": MACHINE, "kind": "guest", "hindrance": 1, "at": 3, "area": "hall", "t": 2}, {}),
+    (storms.Storm, {"watch": WATCH}, {}), (STORM.longest, {"word": 1}, {}), (STORM.course, {"word": 4}, {}),
+    (warmth.Warmth, {"machine": WARM_MACHINE, "air": WARM_AIR, "fitting": (("room", "cold", 19, 0),), "others": (("card", "door", 0, "guest"),)}, {}),
+    (WARMTH.moments, {}, {}), (WARMTH.broken, {}, {}),
+    (guarded.Guarded, {"machine": MACHINE, "watch": WATCH, "others": (("button", 1), ("card", "front", 0, "guest"))}, {}),
+    (GUARDED.longest, {"word": 1}, {}), (GUARDED.said, {"signal": ("button", 1), "word": 1}, {}),
+    (GUARDED.answered, {"signal": ("button", 1), "word": 4}, {}), (GUARDED.worst, {"signal": ("button", 1), "word": 4}, {}),
+    (desk.Desk().say, {"line": "tick"}, {}),
     (readtexts.text_from, {"string": STRING}, {}), (readtexts.ended, {"string": STRING}, {}), (texts.text_of, {"text": TEXT}, {})]
 
-MADE = (bench.Bench, comfort.Comfort, BENCH.copy)
+MADE = (bench.Bench, comfort.Comfort, BENCH.copy, storms.Storm, warmth.Warmth, guarded.Guarded)
 # Calls that let a value be a list at a place where it is a tuple: parameter and path.
 LISTS_LET = {bench.Bench: ("household", ()), logs.placed: ("course", (0,)), logs.is_course: ("value", (0,))}
 LISTS = test_wrong.LISTS + ("household",)
@@ -183,7 +217,7 @@ class Results(test_wrong.Results):
         self.assertFalse(two == WARM)
 
     def test_objects_are_equal_to_nothing_else(self):
-        for thing in (BENCH, WARM):
+        for thing in (BENCH, WARM, STORM, WARMTH, GUARDED, desk.Desk()):
             for value in helper.any_values() + [TEXT, WORLD, OTHER, SMALL, CROWD, tables.Table]:
                 self.assertFalse(thing == value)
                 self.assertTrue(thing != value)

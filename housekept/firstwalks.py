@@ -1,0 +1,47 @@
+"""Walks with the fewest moves: moments as they are met, and the first of the shortest walks to each."""
+from housekept.errors import TooMany
+
+
+class FirstWalks:
+    """The moments that come from a first one, numbered as they are met, fewest moves first.
+
+    A class below tells the moves of a moment, in order: pairs (label, moment), None for one that is lost.
+    """
+
+    def __init__(self, first, most):
+        self.most = most
+        self.met = [first]
+        self.numbers = {first: 0}
+        self.parents = [None]
+        # For each moment its moves: (label, number of the next moment, None for one that is lost).
+        self.steps = []
+
+    def moves_from(self, moment):
+        """The moves of a moment."""
+        return []
+
+    def number(self, moment, parent):
+        if moment is None:
+            return None
+        if moment not in self.numbers:
+            if len(self.met) == self.most:
+                raise TooMany(self.most)
+            self.numbers[moment] = len(self.met)
+            self.met.append(moment)
+            self.parents.append(parent)
+        return self.numbers[moment]
+
+    def explore(self):
+        """Meet all moments."""
+        while len(self.steps) < len(self.met):
+            at = len(self.steps)
+            moves = self.moves_from(self.met[at])
+            self.steps.append([(label, self.number(moment, (at, label))) for label, moment in moves])
+
+    def row_to(self, at):
+        """The labels of the first of the shortest walks to a moment."""
+        row = []
+        while self.parents[at] is not None:
+            at, label = self.parents[at]
+            row.append(label)
+        return row[::-1]
