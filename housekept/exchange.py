@@ -167,6 +167,7 @@ class Harms:
         packed = self.rest.packed(crowds)
         seeds = {at: packed for at, flat in enumerate(exchange.met.flats) if test(flat, False)}
         self.rest.close([seeds], [0])
+        self.found = {exchange.ahead + at: self.rest.entries[at] for at in self.rest.entries}
 
     def totals(self, whole):
         return tuple([sum(row) for row in self.packing.crowd(whole)])
@@ -174,19 +175,25 @@ class Harms:
     def seeds_at(self, at):
         """What the exchange at a standing brings there, round by round."""
         found = [{}]
-        for entry in self.rest.entries[self.going.at[at] - self.going.ahead]:
+        for entry in self.found[self.going.at[at]]:
             while len(found) < entry.born + 2:
                 found.append({})
             lot = found[entry.born + 1].setdefault(at, {})
             lot[entry.whole] = self.totals(entry.whole)
         return found
 
+    def harms_at(self, at):
+        """Whether the promise can be broken at all behind the exchange at a standing."""
+        return self.going.at[at] in self.found
+
     def closed_at(self, at):
         """The table of the web with the exchange at one standing alone."""
         rounds = Rounds(self.old_sources, self.packing, MOST)
         last = rounds.close(self.seeds_at(at), self.rest.counts)
         web = self.going.web_at(at)
-        return Closed(self.building, web, self.packing, rounds.entries + self.rest.entries, last)
+        entries = {place: rounds.entries[place] for place in rounds.entries}
+        entries.update(self.found)
+        return Closed(self.building, web, self.packing, entries, last)
 
 
 def check_harms(machine, new, passage, question, needs):
@@ -200,7 +207,7 @@ def bad_moments(machine, new, passage, question, needs):
     """For each standing of the machine the least households that an exchange there lets break the promise."""
     check_harms(machine, new, passage, question, needs)
     harms = Harms(Exchange(machine, new, passage), question, needs)
-    return [with_courses(harms.closed_at(at)) for at in range(len(machine))]
+    return [with_courses(harms.closed_at(at)) if harms.harms_at(at) else [] for at in range(len(machine))]
 
 
 def good(machine, new, passage, question, needs, household):
@@ -211,7 +218,7 @@ def good(machine, new, passage, question, needs, household):
     harms = Harms(Exchange(machine, new, passage), question, needs)
     found = []
     for at in range(len(machine)):
-        lot = least_households(harms.closed_at(at))
+        lot = least_households(harms.closed_at(at)) if harms.harms_at(at) else []
         if not [less for less in lot if household is None or is_lesser(less, household)]:
             found.append(at)
     return tuple(found)

@@ -92,7 +92,8 @@ def free_marks(machine, door):
     building = machine.text[1]
     check_door(building, door)
     rights = rights_of(building)
-    labels = [("show", kind, door, side) for side in (0, 1) for kind in kinds_of(building) if (kind, door, side) in rights]
+    labels = [("show", kind, door, side) for side in (0, 1) for kind in kinds_of(building)
+              if (kind, door, side) in rights]
     free = numbers_where(machine, ("stands", door, "free"))
     shut = numbers_where(machine, ("stands", door, "shut"))
     return ((tuple(free), ()), (tuple(shut), tuple(labels)))

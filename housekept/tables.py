@@ -44,9 +44,11 @@ class Rounds:
         self.many = 0
         self.counts = []
         self.sources = sources
-        self.entries = [[] for _ in sources]
-        self.living = [{} for _ in sources]
-        self.lowest = [Lowest(packing.guards) for _ in sources]
+        # By places, for those that have come: all entries in the order in which they were born, the living ones
+        # by their crowds, and what is needed to compare these.
+        self.entries = {}
+        self.living = {}
+        self.lowest = {}
 
     def before(self, fresh):
         """For each place the crowds from which moves lead to the fresh ones, with their totals."""
@@ -78,6 +80,10 @@ class Rounds:
             rows = sorted([(sum(found[place][whole]), whole) for whole in found[place]])
             for _, whole in rows:
                 totals = found[place][whole]
+                if place not in self.lowest:
+                    self.lowest[place] = Lowest(self.packing.guards)
+                    self.living[place] = {}
+                    self.entries[place] = []
                 if not self.lowest[place].lies_above(whole, totals):
                     self.put(place, whole, totals, born)
                     fresh.append((place, whole, totals))
@@ -131,7 +137,7 @@ class Closed:
         self.rounds = rounds
 
     def least_at(self, place, k):
-        wholes = [entry.whole for entry in self.entries[place]
+        wholes = [entry.whole for entry in self.entries.get(place, [])
                   if entry.born <= k and (entry.died is None or entry.died > k)]
         return [self.packing.crowd(whole) for whole in sorted(wholes)]
 
@@ -139,7 +145,7 @@ class Closed:
         """How many moves are left, at least; None without end: entries stand in the order in which they were born."""
         guards = self.packing.guards
         top = self.packing.packed(crowd) | guards
-        for entry in self.entries[place]:
+        for entry in self.entries.get(place, []):
             if (top - entry.whole) & guards == guards:
                 return entry.born
         return None
