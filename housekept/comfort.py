@@ -1,6 +1,7 @@
 """Comfort: whether a controller can keep the degrees in bounds, whatever the weather and the doors do."""
 from housekept.air import check_air, is_setting_of, stepped_degrees
 from housekept.errors import BadChoice, BadChoices, BadComfort, BadController, BadDoors, BadState, BadTicks, TooMany
+from housekept.graphs import labels_to
 from housekept.shapes import are_unlike, is_between, is_from, is_tuple
 
 STATES = 1000
@@ -260,15 +261,6 @@ def asked(comfort, controller, memory, number):
     return told
 
 
-def pairs_to(parents, met):
-    """The world's pairs along which a question was met."""
-    row = []
-    while parents[met] is not None:
-        met, pair = parents[met]
-        row.append(pair)
-    return row[::-1]
-
-
 def escape(comfort, state, controller):
     """The least row of the world's pairs that breaks the bounds against a controller, None if there is none."""
     check_comfort(comfort)
@@ -287,7 +279,7 @@ def escape(comfort, state, controller):
                 parents[(memory, behind)] = (here, (weather, door))
                 met.append((memory, behind))
         at += 1
-    return None if lost is None else pairs_to(parents, lost[0]) + [lost[1]]
+    return None if lost is None else labels_to(parents, lost[0]) + [lost[1]]
 
 
 def worst_spots(comfort, counts):

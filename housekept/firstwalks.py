@@ -1,5 +1,6 @@
 """Walks with the fewest moves: moments as they are met, and the first of the shortest walks to each."""
 from housekept.errors import TooMany
+from housekept.graphs import labels_to
 
 
 class FirstWalks:
@@ -40,8 +41,4 @@ class FirstWalks:
 
     def row_to(self, at):
         """The labels of the first of the shortest walks to a moment."""
-        row = []
-        while self.parents[at] is not None:
-            at, label = self.parents[at]
-            row.append(label)
-        return row[::-1]
+        return labels_to(self.parents, at)

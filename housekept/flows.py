@@ -1,4 +1,5 @@
 """Flows: what goes along edges, between bounds; at each node as much comes as goes."""
+from housekept.graphs import labels_to
 
 
 class Flow:
@@ -56,7 +57,7 @@ class Flow:
                     comes[other] = (node, (edge, way))
                     order.append(other)
             at += 1
-        return steps_to(comes, goal) if goal in comes else None
+        return labels_to(comes, goal) if goal in comes else None
 
     def force(self, edge):
         """Whether one at least can always go along an edge: from now on it does."""
@@ -103,15 +104,6 @@ class Flow:
             self.push(ring, many)
             ring = self.better_ring(gains)
         return False
-
-
-def steps_to(comes, node):
-    """The steps by which a node was reached, from where nothing comes."""
-    steps = []
-    while comes[node] is not None:
-        node, step = comes[node]
-        steps.append(step)
-    return steps[::-1]
 
 
 def ring_in(comes):

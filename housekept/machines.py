@@ -1,5 +1,6 @@
 """Machines: all standings to which the signals of a world lead, and how each signal is answered there."""
 from housekept.errors import BadMachine, BadNumber, BadRow, BadSignal, BadStanding, BadWorld, TooLong, TooMany
+from housekept.graphs import labels_to
 from housekept.meaning import ROUNDS
 from housekept.rounds import Program, behind_deeds
 from housekept.rules import begin, check_text, is_signal_of, is_standing_of, signals_of
@@ -334,11 +335,7 @@ class Machine:
 
     def row_to(self, at):
         """The least row to a standing: the walk meets each by its least row."""
-        row = []
-        while self.parents[at] is not None:
-            at, place = self.parents[at]
-            row.append(self.signals[place])
-        return row[::-1]
+        return [self.signals[place] for place in labels_to(self.parents, at)]
 
 
 def check_machine(machine):

@@ -1,6 +1,6 @@
 """Seams: whether one machine can take over from another one as if it had run from the beginning."""
 from housekept.errors import BadTo, TooMany
-from housekept.graphs import longest_ticks, tick_ring
+from housekept.graphs import labels_to, longest_ticks, tick_ring
 from housekept.least import check_looks, check_same_signals, classes_of, parting_row
 from housekept.machines import check_machine
 from housekept.shapes import are_wholes, is_tuple
@@ -35,11 +35,7 @@ class Beside:
 
     def row_to(self, pair):
         """The least row that leads both there."""
-        row = []
-        while self.parents[pair] is not None:
-            pair, place = self.parents[pair]
-            row.append(self.one.signals[place])
-        return row[::-1]
+        return [self.one.signals[place] for place in labels_to(self.parents, pair)]
 
     def beside_each(self):
         """For each standing of the one those of the other beside it, as they are met."""
