@@ -395,6 +395,17 @@ def counted(number):
     return (("shut", "no") + tuple(digits_of(number)), (), (), (None,))
 
 
+def ring_of(many):
+    """A text with just so many standings, through which ticks go round."""
+    end = all_of([("is", name, worth) for name, worth in zip(DIGITS, digits_of(many - 1))])
+    made = [(("tick",), end, tuple(("let", name, "a") for name in DIGITS[:4])), (("tick",), end, (("let", "z", "a"),))]
+    for at, name in enumerate(DIGITS):
+        for here, worth in enumerate(WORTHS):
+            parts = [("is", lower, "d") for lower in DIGITS[:at]] + [("is", name, worth)]
+            made.append((("tick",), all_of(parts), (("let", name, WORTHS[(here + 1) % 4]),)))
+    return ("text", SMALL, tuple((name, WORTHS) for name in DIGITS), (), (), tuple(made))
+
+
 BUTTONS = ("world", (), (0, 1, 2, 3, 4, 5), (), 0)
 
 

@@ -3,7 +3,7 @@ import itertools
 import unittest
 
 from helper import BUTTONS, HOUSE, SMALL, TEXT, Plain, all_of, four_thousand, put, random_building, random_standing
-from helper import random_text, random_world, seeded
+from helper import random_text, random_world, ring_of, seeded
 from housekept import errors, exchange, households, judging, machines, promises, rules, webs
 
 OLD = ("text", HOUSE, (("mode", ("day", "night", "late")), ("lost", ("a", "b"))), (("lamp", 6), ("gone", 2)),
@@ -151,6 +151,29 @@ class Webs(unittest.TestCase):
             for place in met:
                 met.extend(dict.fromkeys(move[3] for move in web[2][place] if move[3] not in met))
             self.assertEqual(met, list(range(many, len(standings))))
+
+    def test_just_a_thousand_standings_of_the_new_text(self):
+        machine = machines.Machine(("text", SMALL, (), (), (), ((("tick",), ("always",), ()),)), BUTTONS)
+        for many in (1000, 1001):
+            new = ring_of(many)
+            self.assertEqual(len(machines.Machine(new, BUTTONS)), many)
+            if many == 1000:
+                web, at, standings = exchange.exchange_web(machine, new, {})
+                self.assertEqual((len(web[2]), at, len(standings)), (1001, (1,), 1001))
+                self.assertEqual(exchange.bad_moments(machine, new, {}, ("is", "door", "free"), (("guest", "room", 1),)), [[]])
+                # A crowd for each place of the new text, and one for that of the old text, are one too many.
+                less = (("is", "z", "d"), (("guest", "room", 1),))
+                self.assertEqual(exchange.bad_moments(machine, ring_of(999), {}, *less), [[]])
+                self.assertEqual(exchange.good(machine, ring_of(999), {}, ("always",), (), None), ())
+                for call, rest in [(exchange.bad_moments, less), (exchange.good, (("always",), (), None))]:
+                    with self.assertRaises(errors.TooMany) as caught:
+                        call(machine, new, {}, *rest)
+                    self.assertEqual(caught.exception.most, 1000)
+            else:
+                for call, rest in [(exchange.exchange_web, ()), (exchange.bad_moments, (("always",), ())), (exchange.good, (("always",), (), None))]:
+                    with self.assertRaises(errors.TooMany) as caught:
+                        call(machine, new, {}, *rest)
+                    self.assertEqual(caught.exception.most, 1000)
 
     def test_a_thousand_standings_and_more(self):
         machine = machines.Machine(("text", SMALL, (), (), (), ((("tick",), ("always",), ()),)), BUTTONS)

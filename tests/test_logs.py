@@ -401,22 +401,23 @@ class Crowds(unittest.TestCase):
         self.assertEqual(counts.crowd_fits(HOUR, ("deaf", "deaf"), row[:2]), 1)
 
     def test_gaps(self):
-        """(G3): two persons are in the lab or none, when one must be there, and two passes lead the same way."""
-        building = ("building", ("out", "hall", "lab", "attic"), (("a", "out", "hall", "leaf"), ("b", "hall", "lab", "leaf"),
-                    ("c", "hall", "attic", "leaf")), ("guest",), ())
+        """(G3): one of two is in y or z, the other one in w or x; behind the doors' change x or y is needed, and z or w."""
+        building = ("building", ("out", "w", "x", "y", "z"), (
+            ("inw", "out", "w", "leaf"), ("iny", "out", "y", "leaf"), ("wx", "w", "x", "leaf"), ("yz", "y", "z", "leaf"),
+            ("xy", "x", "y", "leaf"), ("zw", "z", "w", "leaf")), ("guest",), ())
         text = ("text", building, (), (), (), (
-            (("button", 0), ("always",), (("let", "a", "free"), ("let", "b", "free"), ("let", "c", "free"))),))
-        found = set()
-        rand = seeded(5)
-        for _ in range(60):
-            row = [("button", 0)] + [rand.choice([("pass", door, side) for door in "abc" for side in (0, 1)]) for _ in range(6)]
-            eyes = tuple(rand.choice(["eye", "dull"]) for _ in range(3))
-            if counts.crowd_fits(text, eyes, row) is None:
-                numbers = counts.numbers_there(text, eyes, row, 3, len(row), ("lab", "attic"))
-                found.add(numbers)
-                second = Second(text, eyes, row)
-                self.assertEqual(numbers, self.numbers(second, row, 3, len(row), ("lab", "attic")))
-        self.assertGreater(len(found), 2)
+            (("button", 0), ("always",), tuple(("let", door, "free") for door in ("inw", "iny", "wx", "yz"))),
+            (("button", 1), ("always",), tuple(("let", door, "shut") for door in ("wx", "yz"))),
+            (("button", 2), ("always",), tuple(("let", door, "free") for door in ("xy", "zw")))))
+        eyes = ("eye", "eye", "dull", "dull", "dull", "dull")
+        row = [("button", 0), ("pass", "inw", 0), ("pass", "iny", 0), ("button", 1), ("button", 2), ("card", "xy", 0, "guest"), ("card", "zw", 0, "guest")]
+        self.assertEqual(counts.bounds_there(text, eyes, row, 4, ("x", "z")), (0, 2))
+        for count in range(2, 11):
+            self.assertEqual(counts.numbers_there(text, eyes, row, count, 4, ("x", "z")), (0, 2))
+        self.assertEqual(self.numbers(Second(text, eyes, row), row, 2, 4, ("x", "z")), (0, 2))
+        self.assertEqual(counts.numbers_there(text, eyes, row[:-1], 2, 4, ("x", "z")), (0, 1, 2))
+        self.assertEqual(counts.bounds_there(text, eyes, row, 4, ("x", "y")), (1, 1))
+        self.assertEqual(counts.bounds_there(text, eyes, row, 3, ("x", "z")), (0, 2))
 
     def test_greatest(self):
         rand = seeded(6)

@@ -3,7 +3,7 @@ import itertools
 import unittest
 
 import helper
-from helper import BUTTONS, SMALL, TEXT, WORLD, four_thousand, random_building, random_text, seeded
+from helper import BUTTONS, SMALL, TEXT, WORLD, four_thousand, random_building, random_text, ring_of, seeded
 from housekept import alarms, errors, guarded, machines, meaning, rules, storms
 
 DOZY = ("watch", ((1, 1, 2), (4, 3, 1)), (("ann", 2), ("bob", 0)), 1, 2, "keep")
@@ -302,16 +302,18 @@ class Guards(unittest.TestCase):
 
     def test_four_hundred_pairs_and_more(self):
         watch = ("watch", ((1, 1, 1),), (("ann", 0),), 0, 1, "keep")
-        text = four_thousand(False)
-        machine = machines.Machine(text, BUTTONS)
-        # Five toggles, of which others press four alone, and the timer by button 5.
-        some = tuple(("button", at) for at in (0, 1, 2, 3))
-        self.assertEqual(len(guarded.Guarded(machine, watch, some)), 16)
+        made = guarded.Guarded(machines.Machine(ring_of(400), BUTTONS), watch, (("button", 3),))
+        self.assertEqual((len(made), made.longest(1), made.said(("button", 3), 1)), (400, -1, None))
+        _, _, ring = made.worst(("button", 3), 1)
+        self.assertEqual(len(ring), 400)
         with self.assertRaises(errors.TooMany) as caught:
-            guarded.Guarded(machine, watch, (("card", "door", 0, "guest"), ("card", "door", 1, "guest"), ("button", 5), ("button", 0)))
-            guarded.Guarded(machines.Machine(text, BUTTONS), ("watch", ((1, 1, 1),), (("ann", 4), ("bob", 4)), 2, 1, "keep"),
-                            (("card", "door", 0, "guest"), ("card", "door", 1, "guest"), ("button", 5), ("button", 0)))
+            guarded.Guarded(machines.Machine(ring_of(401), BUTTONS), watch, ())
         self.assertEqual(caught.exception.most, 400)
+        with self.assertRaises(errors.BadOthers):
+            guarded.Guarded(machines.Machine(ring_of(401), BUTTONS), watch, None)
+        # Five toggles, of which others press four alone.
+        some = tuple(("button", at) for at in (0, 1, 2, 3))
+        self.assertEqual(len(guarded.Guarded(machines.Machine(four_thousand(False), BUTTONS), watch, some)), 16)
 
     def test_errors(self):
         machine = machines.Machine(TEXT, WORLD)

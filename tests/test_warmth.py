@@ -2,7 +2,7 @@
 import unittest
 
 import helper
-from helper import BUTTONS, HOUSE, SMALL, TEXT, four_thousand, put, random_building, random_text, seeded
+from helper import BUTTONS, HOUSE, SMALL, TEXT, four_thousand, put, random_building, random_text, ring_of, seeded
 from housekept import air, comfort, errors, machines, meaning, rules, warmth
 
 # A stove that cold lights by button 0, and warm puts out by button 1.
@@ -184,6 +184,10 @@ class Moments(unittest.TestCase):
         with self.assertRaises(errors.TooMany) as caught:
             warmth.Warmth(machines.Machine(counted(2, 3), BUTTONS), more, (), (CARD, ("card", "door", 1, "guest")) + others[:2])
         self.assertEqual(caught.exception.most, 600)
+        still = ("air", (("room", 0, 0, 0),), 1, (), (), (0, 0, 0, 0))
+        self.assertEqual(len(warmth.Warmth(machines.Machine(ring_of(600), BUTTONS), still, (), ()).moments()), 600)
+        with self.assertRaises(errors.TooMany):
+            warmth.Warmth(machines.Machine(ring_of(601), BUTTONS), still, (), ())
         # It is counted on, though the degrees have come out of bounds ahead.
         lost = ("air", (("room", 0, 0, 0),), 1, (("room", "out", 1, None),), (), (0, 6, 0, 6))
         self.assertEqual(warmth.Warmth(machines.Machine(STOVE, WORLD), lost, (), ()).broken(), [("weather", 1)])
