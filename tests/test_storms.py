@@ -113,6 +113,13 @@ class Storms(unittest.TestCase):
         self.assertEqual(storms.Storm(lone).longest(7), 4)
 
     def test_too_many(self):
+        just = ("watch", ((0, 1, 2),), (("a", 2), ("b", 3), ("c", 4)), 2, 3, "pass")
+        self.assertEqual(len(storms.Storm(just)), 300)
+        self.check_course(just, 0, storms.Storm(just).longest(0), storms.Storm(just).course(0))
+        more = ("watch", ((0, 1, 1),), (("a", 3), ("b", 3), ("c", 3)), 3, 3, "keep")
+        with self.assertRaises(errors.TooMany) as caught:
+            storms.Storm(more)
+        self.assertEqual(caught.exception.most, 300)
         great = ("watch", ((1, 1, 4), (2, 2, 3), (3, 3, 2)), (("a", 4), ("b", 4), ("c", 4)), 3, 3, "pass")
         with self.assertRaises(errors.TooMany) as caught:
             storms.Storm(great)
