@@ -1,5 +1,5 @@
 """Exchange: a new text takes over from an old one while the building runs."""
-from housekept.crowds import Packing, check_household, greatest_number
+from housekept.crowds import Packing, are_at_most, check_household, greatest_number
 from housekept.errors import BadNeeds, BadNumbers, BadPassage, UnlikeBuildings
 from housekept.graphs import longest_ticks, tick_ring
 from housekept.households import least_households, with_courses
@@ -219,13 +219,9 @@ def good(machine, new, passage, question, needs, household):
     found = []
     for at in range(len(machine)):
         lot = least_households(harms.closed_at(at)) if harms.harms_at(at) else []
-        if not [less for less in lot if household is None or is_lesser(less, household)]:
+        if not [less for less in lot if household is None or are_at_most(less, household)]:
             found.append(at)
     return tuple(found)
-
-
-def is_lesser(one, other):
-    return all([number <= most for number, most in zip(one, other)])
 
 
 def graph_without(machine, some):
