@@ -198,7 +198,7 @@ class Bench:
         text, standing, crowd, _ = self.past[-1]
         check_bench_promise(text, promise)
         check_world(scope_of(text), world)
-        moves = table_from(text, standing, promise, world).moves_from(0, crowd)
+        moves = table_from(text, standing, promise, world).closed.moves_from(0, crowd)
         return None if moves is None else [deed_of(move[0]) for move in moves]
 
     def guarded(self, promise, world):
@@ -212,6 +212,6 @@ class Bench:
         for move in table.web[2][0]:
             behind = moved(text[1], crowd, move)
             barred = full and move[0][0] == "stuck"
-            if behind is not None and not barred and table.left_of(move[3], behind) is not None:
+            if behind is not None and not barred and table.closed.left_of(move[3], behind) is not None:
                 found.append(deed_of(move[0]))
         return found

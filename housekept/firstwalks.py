@@ -6,20 +6,17 @@ from housekept.graphs import labels_to
 class FirstWalks:
     """The moments that come from a first one, numbered as they are met, fewest moves first.
 
-    A class below tells the moves of a moment, in order: pairs (label, moment), None for one that is lost.
+    The guide tells the moves of a moment, in order: pairs (label, moment), None for one that is lost.
     """
 
-    def __init__(self, first, most):
+    def __init__(self, first, most, guide):
         self.most = most
+        self.guide = guide
         self.met = [first]
         self.numbers = {first: 0}
         self.parents = [None]
         # For each moment its moves: (label, number of the next moment, None for one that is lost).
         self.steps = []
-
-    def moves_from(self, moment):
-        """The moves of a moment."""
-        return []
 
     def number(self, moment, parent):
         if moment is None:
@@ -36,7 +33,7 @@ class FirstWalks:
         """Meet all moments."""
         while len(self.steps) < len(self.met):
             at = len(self.steps)
-            moves = self.moves_from(self.met[at])
+            moves = self.guide.moves_told(self.met[at])
             self.steps.append([(label, self.number(moment, (at, label))) for label, moment in moves])
 
     def row_to(self, at):

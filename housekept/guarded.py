@@ -10,11 +10,10 @@ from housekept.warmth import TICK, check_others
 PAIRS = 400
 
 
-class Pairs(FirstWalks):
-    """The pairs (standing, shortened standing of the watch) that come, by moves (signal or None, sleepers)."""
+class Pairs:
+    """The moves (signal or None, sleepers) of pairs (number of a standing, shortened standing of the watch)."""
 
     def __init__(self, machine, watch, others):
-        FirstWalks.__init__(self, (0, quiet(watch)), PAIRS)
         self.machine = machine
         self.watch = watch
         self.others = others
@@ -30,7 +29,7 @@ class Pairs(FirstWalks):
         at, answer = self.machine.stepped(at, self.machine.places[TICK])
         return at, tuple(sorted(set(said + answer[1])))
 
-    def moves_from(self, moment):
+    def moves_told(self, moment):
         """The moves of a pair, all with what happens by them."""
         found, facts = [], []
         for signal in (None,) + self.others:
@@ -46,13 +45,13 @@ class Pairs(FirstWalks):
 class Afterwards:
     """Behind a signal, how long it can be until something happens: the moves at which it does not are a graph."""
 
-    def __init__(self, walks, signal, part, word):
+    def __init__(self, walks, facts, signal, part, word):
         self.walks = walks
         self.graph = []
         # The moves with the signal: (pair, label, next pair, whether it happens at once).
         self.firsts = []
         for at, steps in enumerate(walks.steps):
-            happens = [word in fact[part] for fact in walks.facts[at]]
+            happens = [word in fact[part] for fact in facts[at]]
             self.graph.append([(step[1], 1, step[0]) for step, now in zip(steps, happens) if not now])
             self.firsts.extend([(at, step[0], step[1], now) for step, now in zip(steps, happens)
                                 if step[0][0] == signal])
@@ -93,15 +92,18 @@ class Guarded:
         check_others(machine, others)
         self.watch = watch
         self.others = others
-        self.walks = Pairs(machine, watch, others)
+        self.machine = machine
+        pairs = Pairs(machine, watch, others)
+        self.walks = FirstWalks((0, quiet(watch)), PAIRS, pairs)
         self.walks.explore()
+        self.facts = pairs.facts
 
     def __len__(self):
         return len(self.walks.met)
 
     def is_opened(self, word):
         """Whether an alarm of a word is ever opened: where it is said the first time, at the latest."""
-        return any([word in said for facts in self.walks.facts for said, _ in facts])
+        return any([word in said for facts in self.facts for said, _ in facts])
 
     def longest(self, word):
         """The longest wait of an alarm of a word, None if it can be open for ever, -1 if none is ever opened."""
@@ -111,10 +113,10 @@ class Guarded:
         return Waits(self.walks, [standing for _, standing in self.walks.met], word).longest()
 
     def afterwards(self, signal, part, word):
-        if not is_world_signal(self.walks.machine, signal) or signal not in self.others:
+        if not is_world_signal(self.machine, signal) or signal not in self.others:
             raise BadSignal("this is none of the others' signals")
         check_word(self.watch, word)
-        return Afterwards(self.walks, signal, part, word)
+        return Afterwards(self.walks, self.facts, signal, part, word)
 
     def said(self, signal, word):
         """The greatest number of ticks from a signal to where a word is said, None if it may never be."""

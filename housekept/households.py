@@ -10,35 +10,35 @@ MANY = "many"
 MOST = 1000
 
 
-def course_of_least(table, household):
+def course_of_least(closed, household):
     """The course from the first begin from which fewest moves are left."""
-    crowd = outside_crowd(table.building, household)
+    crowd = outside_crowd(closed.building, household)
     best = None
-    for begin in table.web[1]:
-        left = table.left_of(begin, crowd)
+    for begin in closed.web[1]:
+        left = closed.left_of(begin, crowd)
         if left is not None and (best is None or left < best[0]):
             best = (left, begin)
-    return (best[1], table.moves_from(best[1], crowd))
+    return (best[1], closed.moves_from(best[1], crowd))
 
 
-def outside_households(table):
+def outside_households(closed):
     """The households of all least crowds of begins that are outside as a whole."""
-    inner = range(1, len(areas_of(table.building)))
+    inner = range(1, len(areas_of(closed.building)))
     found = {}
-    for begin in table.web[1]:
-        for crowd in table.least_at(begin, table.rounds):
+    for begin in closed.web[1]:
+        for crowd in closed.least_at(begin, closed.rounds):
             if not any([row[at] for row in crowd for at in inner]):
                 found[tuple([row[0] for row in crowd])] = True
     return list(found)
 
 
-def least_households(table):
+def least_households(closed):
     """The least households that can meet the loads, by how many persons they are, then ascending."""
-    guards = table.packing.guards
+    guards = closed.packing.guards
     kept = []
     wholes = []
-    for _, household in sorted([(sum(household), household) for household in outside_households(table)]):
-        whole = table.packing.packed(outside_crowd(table.building, household))
+    for _, household in sorted([(sum(household), household) for household in outside_households(closed)]):
+        whole = closed.packing.packed(outside_crowd(closed.building, household))
         top = whole | guards
         if not [less for less in wholes if (top - less) & guards == guards]:
             kept.append(household)
@@ -46,15 +46,15 @@ def least_households(table):
     return kept
 
 
-def with_courses(table):
-    """As households_of, of what is known to be a table."""
-    return [(household, course_of_least(table, household)) for household in least_households(table)]
+def with_courses(closed):
+    """The least households that can meet the loads, each with a shortest course."""
+    return [(household, course_of_least(closed, household)) for household in least_households(closed)]
 
 
 def households_of(table):
     """The least households that can meet a table's loads, each with a shortest course."""
     check_table(table)
-    return with_courses(table)
+    return with_courses(table.closed)
 
 
 def households(building, web, promise):
@@ -62,7 +62,7 @@ def households(building, web, promise):
     check_building(building)
     check_building_web(building, web)
     check_promise(building, web, promise)
-    return with_courses(Table(building, web, loads_where(building, web, promise), MOST))
+    return with_courses(Table(building, web, loads_where(building, web, promise), MOST).closed)
 
 
 def holds_for(table, household):
@@ -70,7 +70,7 @@ def holds_for(table, household):
     check_table(table)
     check_household(table.building, household)
     crowd = outside_crowd(table.building, household)
-    return all([table.left_of(begin, crowd) is None for begin in table.web[1]])
+    return all([table.closed.left_of(begin, crowd) is None for begin in table.web[1]])
 
 
 def is_break(building, web, loads, household, value):
@@ -121,7 +121,7 @@ def boxes(table):
     """The greatest boxes of households that cannot meet a table's loads."""
     check_table(table)
     found = [(MANY,) * len(kinds_of(table.building))]
-    for household in least_households(table):
+    for household in least_households(table.closed):
         found = without_household(found, household)
     return sorted(found, key=box_place)
 
@@ -131,4 +131,4 @@ def still_safe(table, place, crowds):
     check_table(table)
     check_place(table.web, place)
     check_crowds(table.building, crowds)
-    return all([table.left_of(place, crowd) is None for crowd in crowds])
+    return all([table.closed.left_of(place, crowd) is None for crowd in crowds])

@@ -12,16 +12,15 @@ def sleeper_lots(watch, standing):
     return [lot for lot in lots_below(len(watch[2])) if are_sleepers(watch, standing, lot)]
 
 
-class Ticks(FirstWalks):
-    """The shortened standings of a watch that come from quiet, by ticks (words, sleepers)."""
+class Ticks:
+    """The ticks (words, sleepers) of the shortened standings of a watch."""
 
     def __init__(self, watch):
-        FirstWalks.__init__(self, quiet(watch), STANDINGS)
         self.watch = watch
         words = [row[0] for row in watch[1]]
         self.calls = [tuple([words[at] for at in lot]) for lot in lots_below(len(words))]
 
-    def moves_from(self, moment):
+    def moves_told(self, moment):
         """The ticks of a standing."""
         found = []
         for lot in sleeper_lots(self.watch, moment):
@@ -77,7 +76,7 @@ class Storm:
     def __init__(self, watch):
         check_watch(watch)
         self.watch = watch
-        self.walks = Ticks(watch)
+        self.walks = FirstWalks(quiet(watch), STANDINGS, Ticks(watch))
         self.walks.explore()
 
     def __len__(self):

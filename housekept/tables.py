@@ -174,7 +174,7 @@ class Closed:
         return moves
 
 
-class Table(Closed):
+class Table:
     """The least crowds from which loads can be met in so many moves, for all places of a web."""
 
     def __init__(self, building, web, loads, most):
@@ -186,38 +186,41 @@ class Table(Closed):
         closing = Rounds(sources_of(web[2]), packing, most)
         seeds = {place: closing.packed(crowds) for place, crowds in enumerate(loads)}
         rounds = closing.close([seeds], [0])
-        Closed.__init__(self, building, web, packing, closing.entries, rounds)
+        self.building = building
+        self.web = web
         self.loads = loads
+        self.rounds = rounds
+        self.closed = Closed(building, web, packing, closing.entries, rounds)
 
     def least(self, place, k):
         """The least crowds of a place from which at most k moves are needed."""
         check_place(self.web, place)
         if not is_from(k, 0):
             raise BadRound("this is no number of a round")
-        return self.least_at(place, k)
+        return self.closed.least_at(place, k)
 
     def paper(self):
         """The least crowds of all places from which the loads can be met at all."""
-        return tuple([tuple(self.least_at(place, self.rounds)) for place in range(len(self.web[2]))])
+        return tuple([tuple(self.closed.least_at(place, self.rounds)) for place in range(len(self.web[2]))])
 
     def left(self, place, crowd):
         """How many moves are left, at least, until the loads are met; None if they never are."""
         check_place(self.web, place)
         check_crowd(self.building, crowd)
-        return self.left_of(place, crowd)
+        return self.closed.left_of(place, crowd)
 
     def next_move(self, place, crowd):
         """The first move of a place that leaves one move less, None where none is left."""
         check_place(self.web, place)
         check_crowd(self.building, crowd)
-        found = self.move_from(place, crowd)
+        found = self.closed.move_from(place, crowd)
         return None if found is None else found[0]
 
     def moves_left(self, place, crowd):
         """The least list of moves to where the loads are met, None if there is none."""
         check_place(self.web, place)
         check_crowd(self.building, crowd)
-        return self.moves_from(place, crowd)
+        return self.closed.moves_from(place, crowd)
 
 
 def check_table(table):

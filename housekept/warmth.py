@@ -54,12 +54,10 @@ def fits_air(machine, air, fitting):
     return all([joins(building, leak) for leak in air[3]])
 
 
-class Weathers(FirstWalks):
-    """The moments (number of a standing, degrees, weather) that come: from the first ones of all."""
+class Weathers:
+    """The moves of moments (number of a standing, degrees, weather): the others' signals, and weathers."""
 
     def __init__(self, machine, air, fitting, others):
-        first = (0, tuple([row[3] for row in air[1]]), air[5][2])
-        FirstWalks.__init__(self, first, MOMENTS)
         self.machine = machine
         self.air = air
         self.fitting = fitting
@@ -95,7 +93,7 @@ class Weathers(FirstWalks):
                 at = self.behind_signal(at, ("button", row[3]))
         return (self.behind_signal(at, TICK), degrees, weather)
 
-    def moves_from(self, moment):
+    def moves_told(self, moment):
         """The others' signals, and the weathers."""
         at, degrees, weather = moment
         least, most, _, move = self.air[5]
@@ -116,7 +114,8 @@ class Warmth:
         check_others(machine, others)
         if not fits_air(machine, air, fitting):
             raise Unfit("the machine does not fit the air and the fitting")
-        self.walks = Weathers(machine, air, fitting, others)
+        first = (0, tuple([row[3] for row in air[1]]), air[5][2])
+        self.walks = FirstWalks(first, MOMENTS, Weathers(machine, air, fitting, others))
         self.walks.explore()
 
     def moments(self):

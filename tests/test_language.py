@@ -226,6 +226,15 @@ class Modules(Case):
             if node.name == "__eq__":
                 self.assertRegex(ast.unparse(node.body[0]), r"^return isinstance\(other, \w+\)( and \(?self\.(\w+) == other\.\2\)?)*$")
 
+    def test_classes_stand_alone(self):
+        """So no method is read off a class by its name."""
+        own = {kind.name for tree in TREES.values() for kind in classes(tree)}
+        for node, where in self.each(ast.ClassDef):
+            if not where.startswith("errors"):
+                self.assertEqual(node.bases, [], where)
+        for node, where in self.each(ast.Attribute):
+            self.assertFalse(isinstance(node.value, ast.Name) and node.value.id in own, where)
+
     def test_errors_are_caught_by_name(self):
         own = {node.name for node in ast.walk(TREES["errors"]) if isinstance(node, ast.ClassDef)}
         for node, where in self.each(ast.ExceptHandler):
