@@ -76,15 +76,20 @@ def led(building, web, place, crowd, moves):
     return found
 
 
-def ahead(building, move, crowd):
-    """The least crowd from which a move leads to one with this crowd within it."""
-    check_building(building)
-    if not is_move(move) or not is_of_building(building, move):
-        raise BadMove("this is no move of the building")
-    check_crowd(building, crowd)
+def ahead_of(building, move, crowd):
+    """As ahead, of what is known to be right."""
     _, need, there, _ = move
     if need is None:
         return crowd
     if number_at(building, crowd, there) > 0:
         crowd = with_more(building, crowd, there, -1)
     return with_more(building, crowd, need, 1)
+
+
+def ahead(building, move, crowd):
+    """The least crowd from which a move leads to one with this crowd within it."""
+    check_building(building)
+    if not is_move(move) or not is_of_building(building, move):
+        raise BadMove("this is no move of the building")
+    check_crowd(building, crowd)
+    return ahead_of(building, move, crowd)

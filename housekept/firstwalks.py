@@ -36,6 +36,17 @@ class FirstWalks:
             moves = self.guide.moves_told(self.met[at])
             self.steps.append([(label, self.number(moment, (at, label))) for label, moment in moves])
 
+    def first_lost(self):
+        """The first of the shortest walks to a move that is lost, None if there is none: nothing behind it is met."""
+        at = 0
+        while at < len(self.met):
+            for label, moment in self.guide.moves_told(self.met[at]):
+                if moment is None:
+                    return self.row_to(at) + [label]
+                self.number(moment, (at, label))
+            at += 1
+        return None
+
     def row_to(self, at):
         """The labels of the first of the shortest walks to a moment."""
         return labels_to(self.parents, at)

@@ -5,7 +5,7 @@ from housekept.letters import check_net
 from housekept.machines import Tails, check_world, is_in_world, world_signals
 from housekept.panels import Owners, check_parting, lines_between, rule_panels, text_at
 from housekept.rounds import Program
-from housekept.rules import begin, check_text, is_signal_of
+from housekept.rules import begin, check_text, is_signal_of, scope_of
 from housekept.shapes import is_between, is_row
 from housekept.webs import person_moves
 
@@ -15,13 +15,16 @@ TICK = ("tick",)
 
 
 class Panel:
-    """One panel's text, with numbers for its standings as they are met."""
+    """One panel's text, with numbers for its standings as they are met.
 
-    def __init__(self, text):
+    Texts of unlike rules can share their numbers: those of a panel that goes over from one to the other.
+    """
+
+    def __init__(self, text, other=None):
         self.program = Program(text)
         self.tails = Tails(self.program)
-        self.flats = []
-        self.numbers = {}
+        self.flats = [] if other is None else other.flats
+        self.numbers = {} if other is None else other.numbers
         self.known = {}
         self.number(self.program.slots.flat(begin(text)))
 
@@ -50,6 +53,18 @@ class Panel:
         end = self.tails.tail(now, self.program.candidates(told), self.program.is_right(signal)).end
         return now if end is None else end
 
+    def alone(self, at, signal):
+        """The number of the standing behind what a signal is by itself, without rounds."""
+        begun = self.program.alone(self.flats[at], signal)
+        return at if begun is None else self.number(begun[0])
+
+    def with_copies(self, at, copies):
+        """The number of the standing with other copies, of which nothing is told."""
+        cells = list(self.flats[at])
+        for slot, worth in copies:
+            cells[slot] = worth
+        return self.number(tuple(cells))
+
     def stuck(self, at, door):
         return self.flats[at][self.program.slots.first_stuck + door] is not None
 
@@ -64,8 +79,8 @@ class Joint:
     each line, the lag of each line.
     """
 
-    def __init__(self, text, parting, net, world):
-        scope = check_text(text)
+    def __init__(self, text, parting, net, world, lines, panels):
+        scope = scope_of(text)
         self.whole = text
         self.net = net
         self.world = world
@@ -73,11 +88,14 @@ class Joint:
         self.safes = parting[4]
         self.doors = door_names(text[1])
         self.signals = [signal for signal in world_signals(scope, world) if signal != TICK]
+        self.persons = person_moves(text[1])
         self.owners = Owners(scope, parting)
-        where = rule_panels(self.owners, text, parting)
-        self.lines = lines_between(self.owners, text, where)
-        self.panels = [Panel(text_at(text, where, panel)) for panel in range(parting[1])]
+        self.lines = lines
+        self.panels = panels
         self.worths = {}
+        # For each slot of a flat standing the panel that owns what stands there.
+        self.holders = [self.owners.panels[("variable", name) if part == "stuck" else (part, name)]
+                        for part, name in panels[0].program.slots.things]
 
     def beginning(self):
         values = begin(self.whole)[0]
@@ -173,45 +191,57 @@ class Joint:
             self.worths[key] = (tuple([flat[name] for name in names]),) + letters[:-1]
         return self.worths[key]
 
+    def owned(self, numbers):
+        """The flat standing of what panels own, the numbers of their standings being these."""
+        flats = [panel.flats[number] for panel, number in zip(self.panels, numbers)]
+        return tuple([flats[holder][slot] for slot, holder in enumerate(self.holders)])
+
     def plain(self, here):
         """A joint standing as it is told."""
         numbers, letters, lags = here
         return (tuple([panel.standing(number) for panel, number in zip(self.panels, numbers)]), letters, lags)
 
+    def moves(self, here, number):
+        """The moves of a joint standing as those of a web, a function giving the numbers of the next ones."""
+        free = self.free_doors(here)
+        found = [(label, need, there, number(self.signalled(here, signal)))
+                 for label, need, there, signal, door in self.persons if door is None or door in free]
+        found.extend([(signal, None, None, number(self.signalled(here, signal)))
+                      for signal in self.signals if signal[0] not in ("card", "pass")])
+        choices = [self.line_choices(lag) for lag in here[2]]
+        found.extend([(TICK + row, None, None, number(behind)) for row, behind in self.ticks(here, choices)])
+        return found
 
-class JointWalk:
-    """The walk by which the joint standings are met."""
 
-    def __init__(self, joint):
-        self.joint = joint
-        self.persons = person_moves(joint.whole[1])
-        self.others = [signal for signal in joint.signals if signal[0] not in ("card", "pass")]
-        self.met = [joint.beginning()]
-        self.numbers = {self.met[0]: 0}
+def joint_of(text, parting, net, world):
+    """The joint building of a text, NoPlace if a rule of it lies nowhere."""
+    owners = Owners(scope_of(text), parting)
+    where = rule_panels(owners, text, parting)
+    panels = [Panel(text_at(text, where, panel)) for panel in range(parting[1])]
+    return Joint(text, parting, net, world, lines_between(owners, text, where), panels)
+
+
+class WebWalk:
+    """The moments that come from a first one, numbered as they are met: a web of the moves that a guide tells."""
+
+    def __init__(self, first, most, guide):
+        self.most = most
+        self.met = [first]
+        self.numbers = {first: 0}
+        self.rows = []
+        while len(self.rows) < len(self.met):
+            self.rows.append(tuple(guide.moves(self.met[len(self.rows)], self.number)))
 
     def number(self, here):
         if here not in self.numbers:
-            if len(self.met) == STANDINGS:
-                raise TooMany(STANDINGS)
+            if len(self.met) == self.most:
+                raise TooMany(self.most)
             self.numbers[here] = len(self.met)
             self.met.append(here)
         return self.numbers[here]
 
-    def moves(self, here):
-        joint = self.joint
-        free = joint.free_doors(here)
-        found = [(label, need, there, self.number(joint.signalled(here, signal)))
-                 for label, need, there, signal, door in self.persons if door is None or door in free]
-        found.extend([(signal, None, None, self.number(joint.signalled(here, signal))) for signal in self.others])
-        choices = [joint.line_choices(lag) for lag in here[2]]
-        found.extend([(TICK + row, None, None, self.number(behind)) for row, behind in joint.ticks(here, choices)])
-        return tuple(found)
-
-    def walk(self):
-        found = []
-        while len(found) < len(self.met):
-            found.append(self.moves(self.met[len(found)]))
-        return tuple(found)
+    def web(self):
+        return ("web", (0,), tuple(self.rows))
 
 
 def check_joint(text, parting, net, world):
@@ -228,10 +258,9 @@ def check_joint(text, parting, net, world):
 def joint_web(text, parting, net, world):
     """The web of the joint building, and its joint standings."""
     check_joint(text, parting, net, world)
-    joint = Joint(text, parting, net, world)
-    walk = JointWalk(joint)
-    moves = walk.walk()
-    return (("web", (0,), moves), tuple([joint.plain(here) for here in walk.met]))
+    joint = joint_of(text, parting, net, world)
+    walk = WebWalk(joint.beginning(), STANDINGS, joint)
+    return (walk.web(), tuple([joint.plain(here) for here in walk.met]))
 
 
 def is_choice(joint, lag, value):
@@ -258,7 +287,7 @@ def joint_behind(text, parting, net, world, row):
     scope = check_joint(text, parting, net, world)
     if not is_row(row):
         raise BadLabels(None)
-    joint = Joint(text, parting, net, world)
+    joint = joint_of(text, parting, net, world)
     here = joint.beginning()
     lags = here[2]
     # What is a move hangs on lags alone: so wrong labels come ahead of signals that are too long.

@@ -43,6 +43,10 @@ PLAIN = ("text", SMALL, (), (), (),
           (("tick",), ("always",), (("let", "door", "shut"),))))
 
 
+SPLIT_DOORS = ("building", ("out", "room"), (("a", "out", "room", "leaf"), ("b", "out", "room", "leaf")), ("guest",),
+               (("guest", "a", 0),))
+
+
 class Plain:
     """A text worked off as [24] tells it, over dicts, without any thought of speed."""
 

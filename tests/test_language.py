@@ -38,7 +38,19 @@ INTERFACE = {
     "readtexts": "ended text_from", "deedlines": "", "texts": "text_of", "desk": "Desk",
     "escapes": "aged bad_places free_areas safe_after safe_for shut_in",
     "marks": "comes free_marks is_mark is_walk mark_of open_places starts", "firstwalks": "",
-    "games": "deeds_out hinder way_outs", "storms": "Storm", "warmth": "Warmth", "guarded": "Guarded"}
+    "games": "deeds_out hinder way_outs", "storms": "Storm", "warmth": "Warmth", "guarded": "Guarded",
+    "journals": "first_wrong journal", "lags": "least_by parts_by settles unsettled",
+    "lifts": "collective is_rule lift_standings lift_step lift_web one_way",
+    "lifttexts": "lift_of lift_text lift_world", "times": "bound clock is_clock is_ring late ring within",
+    "liftwaits": "call_marks call_waits collective_waits greatest_wait held one_way_waits",
+    "lone": "lone_sleepers lone_wait", "trees": "Tree", "mirrors": "counter_marks low over_by short_by",
+    "wheels": "combined first_unlike is_wheel next_change wheel_of wheel_plan",
+    "modes": "calendar_meets journey_end", "papers": "is_paper keeps", "plaintexts": "is_strict plain_text",
+    "rolling": "bad_mixtures rolling_web safe_orders", "safe": "any_silence controls is_silence_table safe_tables",
+    "waits": "delay is_delay soon soonest", "spans": "spans", "sums": "hour_of hours_of",
+    "twins": "merged merged_household twins", "weathers": "coldest extremes hottest plan_broken run_plan",
+    "unseen": "Unseen is_knowledge known_after thermometer weathers_that_fit",
+    "whereabouts": "bar course_with is_bar may may_so_far placements together"}
 INTERFACE = {stem: names for stem, names in INTERFACE.items() if stem in TREES}
 ORDER = ["errors"] + list(INTERFACE)
 # Further files: they import nothing but one another.
@@ -47,7 +59,8 @@ METHODS = {"Machine": "standing number after __len__", "Table": "least paper lef
            "Bench": "show go signal exchange keep back undo text household now kept log crowd doors __len__ copy tried "
                     "holds still guarded __eq__",
            "Comfort": "states rank free answer", "Desk": "say", "Storm": "__len__ longest course",
-           "Warmth": "moments broken", "Guarded": "__len__ longest said answered worst"}
+           "Warmth": "moments broken", "Guarded": "__len__ longest said answered worst",
+           "Tree": "nodes reaches greatest course_to", "Unseen": "rank free"}
 
 LIBRARY = {"heapq": "heappush heappop heapify heapreplace heappushpop", "math": "gcd lcm isqrt comb perm factorial",
            "itertools": "product combinations permutations chain accumulate pairwise islice zip_longest",
