@@ -1,7 +1,8 @@
 """Times: within how many ticks meetings are answered, and what shows it."""
+from heapq import heappop, heappush
 from housekept.errors import BadClock, BadTicks
 from housekept.graphs import labels_to, longest_ticks, tick_ring
-from housekept.marks import Meetings, TICK, TICKS, check_marks, is_step, is_walk, steps_at
+from housekept.marks import Meetings, TICK, TICKS, check_marks, is_step, is_walk, places_from, steps_at
 from housekept.shapes import is_between, is_from, is_tuple
 
 
@@ -209,98 +210,147 @@ def is_ring(web, one, other, value):
     return are_steps_back(web, one, other, steps[-1][1] if steps else begin, moves)
 
 
-class FirstMeetings:
-    """Walks with the fewest moves, the first ones first, each with the waits of its open meetings.
+class Left:
+    """For each place that can be open how many moves it takes at least until so many more ticks have come.
 
-    A group is what can be at the end of one walk, and at the end of none ahead of it: a whole with the bit 0
-    for the walk itself, and the bit w + 1 for an open meeting whose wait is w. Waits above the most are left out,
-    and those at a place that are below its least: they do not count any more.
+    They are told by rows, one for each number of ticks. A row that is one ahead of it, but for as many moves more at
+    each place, is followed by rows that are those behind that one, with as many moves more.
     """
 
-    def __init__(self, web, one, other, most, leasts):
+    def __init__(self, openness, most):
+        self.graph = openness.graph
+        self.quiet_back = [[] for _ in self.graph]
+        self.ticks = []
+        for at, edges in enumerate(self.graph):
+            self.ticks.append([behind for behind, tick, _ in edges if tick == 1])
+            for behind, tick, _ in edges:
+                if tick == 0:
+                    self.quiet_back[behind].append(at)
+        self.rows = [[0] * len(self.graph)]
+        self.turn = None
+        self.more = 0
+        self.met = {}
+        while self.turn is None and len(self.rows) <= most:
+            self.look_back()
+            if self.turn is None:
+                self.rows.append(self.row_ahead(self.rows[-1]))
+
+    def look_back(self):
+        """Whether the last row is one ahead of it, but for as many moves more."""
+        row = self.rows[-1]
+        least = min([many for many in row if many is not None], default=0)
+        key = tuple([None if many is None else many - least for many in row])
+        if key in self.met:
+            at, ahead = self.met[key]
+            self.turn = len(self.rows) - 1 - at
+            self.more = least - ahead
+        else:
+            self.met[key] = (len(self.rows) - 1, least)
+
+    def row_ahead(self, row):
+        """The row for one tick more."""
+        found = [None] * len(row)
+        queue = []
+        for at, lot in enumerate(self.ticks):
+            many = [row[behind] for behind in lot if row[behind] is not None]
+            if many:
+                found[at] = min(many) + 1
+                heappush(queue, (found[at], at))
+        while queue:
+            many, at = heappop(queue)
+            for source in self.quiet_back[at] if many == found[at] else ():
+                if found[source] is None or many + 1 < found[source]:
+                    found[source] = many + 1
+                    heappush(queue, (many + 1, source))
+        return found
+
+    def moves(self, at, ticks):
+        """From a place, by its number here, the least moves to so many more ticks, None if these cannot come."""
+        if ticks < len(self.rows):
+            return self.rows[ticks][at]
+        first = len(self.rows) - 1 - self.turn
+        turns, place = (ticks - first) // self.turn, (ticks - first) % self.turn
+        many = self.rows[first + place][at]
+        return None if many is None else many + turns * self.more
+
+
+class Late:
+    """The first of the shortest walks that end with an open meeting whose wait is t."""
+
+    def __init__(self, web, one, other, openness, t):
         self.web = web
-        self.leasts = leasts
-        self.mask = (1 << (most + 1)) - 1
-        self.places = [{place: True for place in mark[0]} for mark in (one, other)]
-        self.labels = [{label: True for label in mark[1]} for mark in (one, other)]
-        self.seen = {}
-        self.steps = {}
-        self.groups = []
+        self.t = t
+        self.openness = openness
+        self.left = Left(openness, t)
+        self.meetings = Meetings(web, one, other)
+        self.places = {place: True for place in one[0]}
+        self.labels = {label: True for label in one[1]}
+        # For each place from which a meeting is still to begin the least moves to the end.
+        self.ahead = {}
+        self.look_ahead()
 
-    def steps_from(self, place):
-        """The steps of a place, but for those that do what one ahead of them does."""
-        if place not in self.steps:
-            found = {}
-            for step in steps_at(self.web, place):
-                label = step[0]
-                key = (step[1], label == TICK, label in self.labels[0], label in self.labels[1])
-                found.setdefault(key, step)
-            self.steps[place] = [(key, found[key]) for key in found]
-        return self.steps[place]
+    def left_from(self, place, wait):
+        """From a place with an open meeting of this wait the least moves to the end, None if there is none."""
+        return self.left.moves(self.openness.numbers[place], self.t - wait)
 
-    def arrived(self, place, begun, waits, answered):
-        """The waits of meetings that are open, and those that are answered, behind a place."""
-        meets = place in self.places[0] and begun
-        if place in self.places[1]:
-            return 0, answered | waits | (1 if meets else 0)
-        return (waits | (1 if meets else 0)) & self.mask, answered
+    def begins(self, label, behind):
+        """Whether a meeting that stays open begins with a move, or with the place behind it."""
+        if behind in self.meetings.answers:
+            return False
+        return behind in self.places or (label in self.labels and label not in self.meetings.silences)
 
-    def stepped(self, group, key):
-        """The waits of open and of answered meetings behind a step from a group."""
-        behind, is_tick, meets, answers = key
-        begun = group & 1
-        waits = group >> 1
-        if is_tick:
-            waits = waits << 1
-        if meets and begun:
-            waits = waits | 1
-        if answers:
-            return self.arrived(behind, begun, 0, waits)
-        return self.arrived(behind, begun, waits, 0)
+    def look_ahead(self):
+        sources = {}
+        queue = []
+        for place in places_from(self.web, self.web[1]):
+            best = None
+            for label, behind in steps_at(self.web, place):
+                sources.setdefault(behind, {}).setdefault(place, True)
+                many = self.left_from(behind, 0) if self.begins(label, behind) else None
+                if many is not None and (best is None or many + 1 < best):
+                    best = many + 1
+            if best is not None:
+                self.ahead[place] = best
+                heappush(queue, (best, place))
+        while queue:
+            many, place = heappop(queue)
+            for source in sources.get(place, {}) if many == self.ahead[place] else ():
+                if source not in self.ahead or many + 1 < self.ahead[source]:
+                    self.ahead[source] = many + 1
+                    heappush(queue, (many + 1, source))
 
-    def enter(self, place, begun, waits, parent):
-        """Take in what is new at a place: whether there is something."""
-        least = self.leasts.get(place, 0)
-        group = (waits >> least << (least + 1)) | begun
-        group = group & ~self.seen.get(place, 0)
-        if group:
-            self.seen[place] = self.seen.get(place, 0) | group
-            self.groups.append((place, group, parent))
+    def at_begin(self, begin):
+        """The least moves from a begin, and from it with a meeting there: None where there is none."""
+        met = begin in self.places and begin not in self.meetings.answers
+        return [self.ahead.get(begin, None), self.left_from(begin, 0) if met else None]
 
-    def walk_to(self, parent):
-        """The walk of a parent: of a group, or of a begin, and the last step behind it."""
+    def behind(self, label, behind, still, waits, left):
+        """What a step leads to with so many moves left: whether no meeting has begun, and waits of open ones."""
+        found = {}
+        if self.meetings.is_open(label, behind):
+            found = {wait + 1 if label == TICK else wait: True for wait in waits}
+        if still and self.begins(label, behind):
+            found[0] = True
+        lot = [wait for wait in found if wait <= self.t and self.left_from(behind, wait) == left]
+        return still and self.ahead.get(behind, None) == left, lot
+
+    def walk(self):
+        left, at = min([(many, at) for at, begin in enumerate(self.web[1])
+                        for many in self.at_begin(begin) if many is not None])
+        place = self.web[1][at]
+        moves = self.at_begin(place)
+        still, waits = moves[0] == left, [0] if moves[1] == left else []
         steps = []
-        while parent[0] is not None:
-            steps.append(parent[1])
-            parent = self.groups[parent[0]][2]
-        return (parent[1], tuple(steps[::-1]))
-
-    def search(self, is_goal):
-        """The first of the shortest walks whose (open waits, answered waits) are a goal."""
-        for begin in self.web[1]:
-            waits, answered = self.arrived(begin, 1, 0, 0)
-            if is_goal(waits, answered):
-                return (begin, ())
-            self.enter(begin, 1, waits, (None, begin))
-        at = 0
-        while at < len(self.groups):
-            place, group, _ = self.groups[at]
-            for key, step in self.steps_from(place):
-                waits, answered = self.stepped(group, key)
-                if is_goal(waits, answered):
-                    return self.walk_to((at, step))
-                self.enter(step[1], group & 1, waits, (at, step))
-            at += 1
-        return None
-
-
-def least_waits(openness, t):
-    """For each place that can be open the least wait with which one of t can still come from there."""
-    found = {}
-    for at, place in enumerate(openness.places):
-        if openness.longest[at] is not None:
-            found[place] = max(0, t - openness.longest[at])
-    return found
+        while left > 0:
+            left -= 1
+            for label, behind in steps_at(self.web, place):
+                going = self.behind(label, behind, still, waits, left)
+                if going[0] or going[1]:
+                    steps.append((label, behind))
+                    break
+            still, waits = going
+            place = steps[-1][1]
+        return (self.web[1][at], tuple(steps))
 
 
 def check_ticks(t):
@@ -316,6 +366,5 @@ def late(web, one, other, t):
     bounded = openness.within()
     if bounded is not None and bounded <= t:
         return None
-    meetings = FirstMeetings(web, one, other, t, least_waits(openness, t))
-    walk = meetings.search(lambda waits, answered: waits >> t & 1 == 1)
+    walk = Late(web, one, other, openness, t).walk()
     return (walk, Moments(walk, one, other).first_open(t))

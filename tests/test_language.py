@@ -46,12 +46,11 @@ INTERFACE = {
     "lone": "lone_sleepers lone_wait", "trees": "Tree", "mirrors": "counter_marks low over_by short_by",
     "wheels": "combined first_unlike is_wheel next_change wheel_of wheel_plan",
     "modes": "calendar_meets journey_end", "papers": "is_paper keeps", "plaintexts": "is_strict plain_text",
-    "rolling": "bad_mixtures rolling_web safe_orders", "safe": "any_silence controls is_silence_table safe_tables",
+    "rolling": "bad_mixtures rolling_web safe_orders", "silence": "", "safe": "any_silence controls is_silence_table safe_tables",
     "waits": "delay is_delay soon soonest", "spans": "spans", "sums": "hour_of hours_of",
     "twins": "merged merged_household twins", "weathers": "coldest extremes hottest plan_broken run_plan",
     "unseen": "Unseen is_knowledge known_after thermometer weathers_that_fit",
     "whereabouts": "bar course_with is_bar may may_so_far placements together"}
-INTERFACE = {stem: names for stem, names in INTERFACE.items() if stem in TREES}
 ORDER = ["errors"] + list(INTERFACE)
 # Further files: they import nothing but one another.
 FURTHER = ["graphs", "shapes"]
