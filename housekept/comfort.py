@@ -28,6 +28,15 @@ def all_degrees(air):
     return rows
 
 
+def check_lots(air, choices, doors):
+    """The errors of an air, of the lots of heaters and of those of doors."""
+    check_air(air)
+    if not are_choices(air, choices):
+        raise BadChoices("this is no tuple of unlike lots of heaters")
+    if not are_frees(air, doors):
+        raise BadDoors("this is no tuple of unlike lots of doors")
+
+
 class Game:
     """The moves of a controller and of the world, over numbers of states.
 
@@ -108,11 +117,7 @@ class Comfort:
     """The game of a controller against the weather and the doors."""
 
     def __init__(self, air, choices, doors):
-        check_air(air)
-        if not are_choices(air, choices):
-            raise BadChoices("this is no tuple of unlike lots of heaters")
-        if not are_frees(air, doors):
-            raise BadDoors("this is no tuple of unlike lots of doors")
+        check_lots(air, choices, doors)
         self.air = air
         self.choices = choices
         self.doors = doors

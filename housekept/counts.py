@@ -50,9 +50,9 @@ class Streams:
         self.into = [[self.flow.edge(self.lot_node(at, area), self.area_node(at, area), None)
                       for area in history.areas] for at in range(moments)]
         for at in range(moments):
-            for area in history.areas:
-                there = self.lot_node(0, history.areas[0]) if at + 1 == moments else self.lot_node(at + 1, area)
-                self.flow.edge(self.area_node(at, area), there, None)
+            for name in history.areas:
+                there = self.lot_node(0, history.areas[0]) if at + 1 == moments else self.lot_node(at + 1, name)
+                self.flow.edge(self.area_node(at, name), there, None)
 
     def lot_node(self, at, area):
         return 2 * self.size * at + self.history.lot_of(at, area)

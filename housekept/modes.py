@@ -188,7 +188,7 @@ class Meeting:
         self.lots = [0] * CYCLE
         self.sources = {}
 
-    def find(self):
+    def first_met(self):
         """The year of the 400 and the lot ahead of it from which the goal is met, None if it never is."""
         waiting = list(range(CYCLE))
         while waiting:
@@ -208,7 +208,7 @@ class Meeting:
 
     def journey(self):
         """A journey to the goal, None if there is none: it is found from its end."""
-        found = self.find()
+        found = self.first_met()
         if found is None:
             return None
         year, lot = found

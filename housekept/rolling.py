@@ -100,14 +100,19 @@ def is_kept(building, walk, flats, test, needs):
     return least_households(Table(building, walk.web(), loads, MOST).closed) == []
 
 
-def safe_orders(old, new, parting, net, world, question, needs):
-    """The orders in which panels can go over without breaking a promise, whoever is there."""
+def asked_going(old, new, parting, net, world, question, needs):
+    """The panels of two texts, all parameters being right."""
     scope = check_going(old, new, parting, net, world)
     check_asked(scope, old[1], question, needs)
-    going = Going(old, new, parting, net, world)
+    return Going(old, new, parting, net, world)
+
+
+def safe_orders(old, new, parting, net, world, question, needs):
+    """The orders in which panels can go over without breaking a promise, whoever is there."""
+    going = asked_going(old, new, parting, net, world, question, needs)
     test = test_of(going.olds[0].program.slots, question)
     found = []
-    for order in permutations(list(range(parting[1]))):
+    for order in permutations(range(parting[1])):
         rolled = Rolled(going, order)
         walk = WebWalk(rolled.first(), STANDINGS, rolled)
         flats = [rolled.stages[many].owned(here[0]) for many, here in walk.met]
@@ -118,9 +123,7 @@ def safe_orders(old, new, parting, net, world, question, needs):
 
 def bad_mixtures(old, new, parting, net, world, question, needs):
     """The lots of panels with whose new rules, the others having the old ones, a promise can be broken."""
-    scope = check_going(old, new, parting, net, world)
-    check_asked(scope, old[1], question, needs)
-    going = Going(old, new, parting, net, world)
+    going = asked_going(old, new, parting, net, world, question, needs)
     test = test_of(going.olds[0].program.slots, question)
     found = []
     for lot in sorted(lots_below(parting[1])):

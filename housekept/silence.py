@@ -110,7 +110,7 @@ class System:
             lot = self.outcomes(control, panel)
             found = [(numbers + (behind,), rows + (lot[behind],)) for numbers, rows in found for behind in lot]
         # The choices of panels are free of one another: the first row of all has the first row of each.
-        firsts = [(self.order_of(self.by_lines([lot[0] for lot in rows])), numbers, rows) for numbers, rows in found]
+        firsts = [(self.order_of(self.by_lines([row[0] for row in rows])), numbers, rows) for numbers, rows in found]
         return [((numbers, control[1]), rows) for _, numbers, rows in sorted(firsts, key=lambda one: one[0])]
 
     def patterns(self, control, behind):
@@ -257,7 +257,7 @@ class Bad:
 
     def close(self):
         """Go back round by round until nothing is new."""
-        fresh = self.taken({at: {load: True for load in self.seeds[at]} for at in self.seeds}, 0)
+        fresh = self.taken({at: {seed: True for seed in self.seeds[at]} for at in self.seeds}, 0)
         number = 0
         while fresh:
             number += 1

@@ -48,11 +48,16 @@ def within(web, one, other):
     return Openness(web, one, other).within()
 
 
-def is_clock_of(web, one, other, value):
+def are_place_wholes(web, value):
+    """Whether a value is a dict from places to wholes from 0 on."""
     if type(value) is not dict:
         return False
     many = len(web[2])
-    if not all([is_between(place, 0, many - 1) and is_from(value[place], 0) for place in value]):
+    return all([is_between(place, 0, many - 1) and is_from(value[place], 0) for place in value])
+
+
+def is_clock_of(web, one, other, value):
+    if not are_place_wholes(web, value):
         return False
     meetings = Meetings(web, one, other)
     if not all([place in value for place in meetings.starts]):
@@ -146,8 +151,8 @@ class Moments:
 
     def __init__(self, walk, one, other):
         begin, steps = walk
-        places = [{place: True for place in mark[0]} for mark in (one, other)]
-        labels = [{label: True for label in mark[1]} for mark in (one, other)]
+        places = [{at: True for at in mark[0]} for mark in (one, other)]
+        labels = [{word: True for word in mark[1]} for mark in (one, other)]
         self.ones = [begin in places[0]]
         others = [begin in places[1]]
         self.ticks = [0]

@@ -177,7 +177,7 @@ class Leading:
         whole = growth.made(growth.met[parent][1], move)
         lot = growth.within_made(whole, [one for one in growth.way_to(parent) if growth.met[one][0] == place])
         made = self.numbers(whole)
-        gains = {one: {spot: made[spot] - growth.number(growth.met[one][1], spot) for spot in made} for one in lot}
+        gains = {one: {here: made[here] - growth.number(growth.met[one][1], here) for here in made} for one in lot}
         times = {}
         for spot in made:
             lacking = self.needed(spot) - made[spot] - sum([times[one] * gains[one][spot] for one in times])

@@ -1,7 +1,7 @@
 """Unseen weather: what a controller knows without a thermometer outside, and whether it keeps the bounds so."""
 from housekept.air import check_air, check_degrees, is_setting_of, stepped_degrees
-from housekept.comfort import Comfort, all_degrees, are_choices, are_frees
-from housekept.errors import BadChoices, BadDegrees, BadDoors, BadKnowledge, BadSetting, TooMany
+from housekept.comfort import Comfort, all_degrees, check_lots
+from housekept.errors import BadDegrees, BadKnowledge, BadSetting, TooMany
 from housekept.shapes import is_between, is_row, is_tuple
 from housekept.weathers import check_plan, firsts_of
 
@@ -154,11 +154,7 @@ class Unseen:
     """The game of a controller against the weather, which it does not see, and the doors."""
 
     def __init__(self, air, choices, doors):
-        check_air(air)
-        if not are_choices(air, choices):
-            raise BadChoices("this is no tuple of unlike lots of heaters")
-        if not are_frees(air, doors):
-            raise BadDoors("this is no tuple of unlike lots of doors")
+        check_lots(air, choices, doors)
         self.air = air
         self.choices = choices
         self.doors = doors

@@ -1,7 +1,6 @@
 """Waits: how soon meetings are answered, at the least."""
 from housekept.marks import Meetings, TICK, check_marks, places_from, steps_at
-from housekept.shapes import is_between, is_from
-from housekept.times import Moments, check_ticks
+from housekept.times import Moments, are_place_wholes, check_ticks
 
 
 class Answers:
@@ -68,8 +67,8 @@ class FirstMeetings:
     def __init__(self, web, one, other, most):
         self.web = web
         self.mask = (1 << (most + 1)) - 1
-        self.places = [{place: True for place in mark[0]} for mark in (one, other)]
-        self.labels = [{label: True for label in mark[1]} for mark in (one, other)]
+        self.places = [{at: True for at in mark[0]} for mark in (one, other)]
+        self.labels = [{word: True for word in mark[1]} for mark in (one, other)]
         self.seen = {}
         self.steps = {}
         self.groups = []
@@ -171,10 +170,7 @@ def is_delay(web, one, other, t, value):
     """Whether a value is a dict that shows that no meeting is answered with a wait below t."""
     check_marks(web, one, other)
     check_ticks(t)
-    if type(value) is not dict:
-        return False
-    many = len(web[2])
-    if not all([is_between(place, 0, many - 1) and is_from(value[place], 0) for place in value]):
+    if not are_place_wholes(web, value):
         return False
     answers = Answers(web, one, other)
     if not all([place in value and value[place] == 0 for place in answers.meetings.starts]):

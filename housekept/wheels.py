@@ -54,7 +54,7 @@ def week_of(rows):
         for weekday, plan in row:
             lot = counts[weekday]
             lot[plan] = lot.get(plan, 0) + 1
-    return tuple([min([(-lot[plan], plan) for plan in lot])[1] for lot in counts])
+    return tuple([min([(-number[told], told) for told in number])[1] for number in counts])
 
 
 def year_plans(week, special, kind):

@@ -198,7 +198,7 @@ def are_sheets(tracks, value, many):
 
 def are_closed_ahead(tracks, sheets):
     """Whether all that comes of all outside, unseen and by rows, is on the sheets."""
-    rows = [{row: True for row in sheet} for sheet in sheets]
+    rows = [{one: True for one in sheet} for sheet in sheets]
     if (tracks.history.areas[0],) * tracks.many not in rows[0]:
         return False
     for at, row in enumerate(rows):
@@ -213,7 +213,7 @@ def are_closed_ahead(tracks, sheets):
 
 def are_closed_back(tracks, moment, sheets):
     """Whether all from which one can go on to the end is on the sheets."""
-    rows = [{row: True for row in sheet} for sheet in sheets]
+    rows = [{one: True for one in sheet} for sheet in sheets]
     if not all([row in rows[-1] for row in tracks.every]):
         return False
     for place in range(len(rows) - 1):

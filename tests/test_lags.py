@@ -196,6 +196,14 @@ class Parts(unittest.TestCase):
             row = lags.parts_by(text, parting, net, world, k - 1)
             self.assertEqual(row[0], ("button", 0))
             self.assertEqual([label[0] for label in row[1:]], ["tick"] * k)
+        # Late and losses at their bounds, by a patience for just so late, and not for so many losses.
+        patient = parting[:3] + (3,) + parting[4:]
+        self.assertEqual(lags.least_by(text, patient, ("net", 3, 0), world), 4)
+        self.assertEqual(lags.settles(text, patient, ("net", 3, 0), world), 5)
+        self.assertEqual(lags.least_by(text, patient, ("net", 0, 3), world), 4)
+        self.assertIsNone(lags.least_by(text, patient, ("net", 3, 3), world))
+        self.assertIsNone(lags.settles(text, patient, ("net", 3, 3), world))
+        self.check_unsettled(text, patient, ("net", 3, 3), world)
         # A letter that is lost for ever: behind the patience the safe value is there, for ever.
         for safe in ("shut", "free"):
             lost = parting[:4] + ((safe, safe, "no"),)

@@ -345,7 +345,7 @@ class Calls(Case):
                     self.assertIn(id(node), let, f"{stem}:{node.lineno}")
 
     def test_views_are_iterated_on_the_spot(self):
-        users = {"list", "tuple", "dict", "sorted", "sum", "any", "all", "enumerate", "zip", "min", "max"}
+        users = {"list", "tuple", "dict", "sorted", "sum", "any", "all", "enumerate", "zip", "min", "max", "permutations"}
         for stem, tree in TREES.items():
             let = []
             for node in ast.walk(tree):

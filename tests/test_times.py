@@ -3,7 +3,7 @@ import unittest
 
 import helper
 from helper import HOUSE, TEXT, WORLD, four_thousand, put, seeded
-from housekept import errors, escapes, machines, marks, promises, times, webs
+from housekept import errors, escapes, machines, marks, promises, times, waits, webs
 from test_marks import TICK, meets, open_meetings, random_mark, random_web, ticks, walks
 
 
@@ -177,6 +177,20 @@ class Times(unittest.TestCase):
                 elif late is not None:
                     self.assertNotIn(t, found)
         self.assertGreater(seen, 20)
+
+    def test_late_against_a_search(self):
+        """Greater waits, against walks that are met one by one, the first ones first."""
+        seen = 0
+        for rand, web, one, other in self.each(7, 120, 7, 0.12):
+            for t in (5, 23, 400):
+                late = times.late(web, one, other, t)
+                walk = waits.FirstMeetings(web, one, other, t).search(lambda held, _: held >> t & 1 == 1)
+                self.assertEqual(late and late[0], walk)
+                if late is not None:
+                    moments = [moment for moment, wait in open_meetings(walk, one, other) if wait == t] if t < 30 else [late[1]]
+                    self.assertEqual(late[1], min(moments))
+                    seen += len(walk[1]) > t + 2
+        self.assertGreater(seen, 15)
 
     def test_bounds_of_t(self):
         web = ("web", (0, 1), (((TICK, None, None, 1),), ((("a",), None, None, 1), (TICK, None, None, 0))))
