@@ -182,8 +182,8 @@ class Leading:
         for spot in made:
             lacking = self.needed(spot) - made[spot] - sum([times[one] * gains[one][spot] for one in times])
             if lacking > 0:
-                best = max([(gains[one][spot], one) for one in lot])[1]
-                times[best] = times.get(best, 0) - -lacking // gains[best][spot]
+                gain, best = max([(gains[one][spot], one) for one in lot])
+                times[best] = times.get(best, 0) + (lacking + gain - 1) // gain
         return [(one, times[one]) for one in times]
 
     def go_round(self, at):

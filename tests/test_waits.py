@@ -157,7 +157,7 @@ class Spans(unittest.TestCase):
             for t in range(4):
                 if t in came:
                     self.assertIs(truths[t], True)
-                elif truths[t]:
+                elif truths[t] and len(web[2]) < 4:
                     self.assertTrue(any(wait == t for walk in walks(web, 9) for _, _, wait in answered(walk, one, other)))
             least = waits.soonest(web, one, other)
             rows = [t for t in range(500) if self.told(found, t)]

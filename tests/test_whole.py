@@ -132,12 +132,12 @@ class Whole(unittest.TestCase):
                 shares = parting[:3] + (patience,) + parting[4:]
                 try:
                     web, standings = joined.joint_web(text, shares, ("net", late, lost), world)
+                    plain = helper.Plain(text)
+                    places = tuple(at for at, joint in enumerate(standings)
+                                   if plain.true(plain.opened(owned(text, shares, joint)), question, False))
+                    breaking = households.households(text[1], web, ("never", places, needs))
                 except errors.TooMany:
                     continue
-                plain = helper.Plain(text)
-                places = tuple(at for at, joint in enumerate(standings)
-                               if plain.true(plain.opened(owned(text, shares, joint)), question, False))
-                breaking = households.households(text[1], web, ("never", places, needs))
                 for household, _ in breaking:
                     self.assertTrue(any(is_below(one, household) for one, _ in found))
                     bad += 1
