@@ -57,83 +57,71 @@ class Answers:
                 order.append(behind)
 
 
-class FirstMeetings:
-    """Walks with the fewest moves, the first ones first, each with the waits of its open meetings.
+class FirstAnswers:
+    """Walks with the fewest moves, the first ones first, up to an answer with the least wait of all.
 
-    A group is what can be at the end of one walk, and at the end of none ahead of it: a whole with the bit 0
-    for the walk itself, and the bit w + 1 for an open meeting whose wait is w. Waits above the most are left out.
+    With more than the least wait of its place no open meeting comes to such an answer. So a group, which is what
+    can be at the end of one walk and of none ahead of it, tells of two things: the walk itself, an open meeting.
     """
 
-    def __init__(self, web, one, other, most):
-        self.web = web
-        self.mask = (1 << (most + 1)) - 1
-        self.places = [{at: True for at in mark[0]} for mark in (one, other)]
-        self.labels = [{word: True for word in mark[1]} for mark in (one, other)]
+    def __init__(self, answers, one):
+        self.answers = answers
+        self.meetings = answers.meetings
+        self.places = {place: True for place in one[0]}
+        self.labels = {label: True for label in one[1]}
         self.seen = {}
-        self.steps = {}
         self.groups = []
 
-    def steps_from(self, place):
-        """The steps of a place, but for those that do what one ahead of them does."""
-        if place not in self.steps:
-            found = {}
-            for step in steps_at(self.web, place):
-                label = step[0]
-                key = (step[1], label == TICK, label in self.labels[0], label in self.labels[1])
-                found.setdefault(key, step)
-            self.steps[place] = [(key, found[key]) for key in found]
-        return self.steps[place]
+    def is_answer(self, label, behind, group):
+        """Whether a step from a group answers a meeting with the least wait."""
+        place, still, held, _ = group
+        soonest = self.answers.soonest
+        answers = not self.meetings.is_open(label, behind)
+        if held and answers and self.answers.least[place] + (1 if label == TICK else 0) == soonest:
+            return True
+        if not still or soonest > 0:
+            return False
+        return (answers and label in self.labels) or (behind in self.places and behind in self.meetings.answers)
 
-    def arrived(self, place, begun, waits, answered):
-        """The waits of meetings that are open, and those that are answered, behind a place."""
-        meets = place in self.places[0] and begun
-        if place in self.places[1]:
-            return 0, answered | waits | (1 if meets else 0)
-        return (waits | (1 if meets else 0)) & self.mask, answered
+    def holds(self, label, behind, group):
+        """Whether behind a step from a group a meeting is open, with the least wait."""
+        place, still, held, _ = group
+        least = self.answers.least
+        if held and self.meetings.is_open(label, behind):
+            if least[behind] == least[place] + (1 if label == TICK else 0):
+                return True
+        if not still or behind in self.meetings.answers:
+            return False
+        return behind in self.places or (label in self.labels and label not in self.meetings.silences)
 
-    def stepped(self, group, key):
-        """The waits of open and of answered meetings behind a step from a group."""
-        behind, is_tick, meets, answers = key
-        begun = group & 1
-        waits = group >> 1
-        if is_tick:
-            waits = waits << 1
-        if meets and begun:
-            waits = waits | 1
-        if answers:
-            return self.arrived(behind, begun, 0, waits)
-        return self.arrived(behind, begun, waits, 0)
-
-    def enter(self, place, begun, waits, parent):
+    def enter(self, place, still, held, parent):
         """Take in what is new at a place."""
-        group = ((waits << 1) | begun) & ~self.seen.get(place, 0)
-        if group:
-            self.seen[place] = self.seen.get(place, 0) | group
-            self.groups.append((place, group, parent))
+        known = self.seen.get(place, (False, False))
+        if (still and not known[0]) or (held and not known[1]):
+            self.seen[place] = (known[0] or still, known[1] or held)
+            self.groups.append((place, still and not known[0], held and not known[1], parent))
 
     def walk_to(self, parent):
         """The walk of a parent: of a group, or of a begin, and the last step behind it."""
         steps = []
         while parent[0] is not None:
             steps.append(parent[1])
-            parent = self.groups[parent[0]][2]
+            parent = self.groups[parent[0]][3]
         return (parent[1], tuple(steps[::-1]))
 
-    def search(self, is_goal):
-        """The first of the shortest walks whose (open waits, answered waits) are a goal."""
-        for begin in self.web[1]:
-            waits, answered = self.arrived(begin, 1, 0, 0)
-            if is_goal(waits, answered):
+    def search(self, web):
+        for begin in web[1]:
+            met = begin in self.places
+            if met and begin in self.meetings.answers:
                 return (begin, ())
-            self.enter(begin, 1, waits, (None, begin))
+            self.enter(begin, True, met, (None, begin))
         at = 0
         while at < len(self.groups):
-            place, group, _ = self.groups[at]
-            for key, step in self.steps_from(place):
-                waits, answered = self.stepped(group, key)
-                if is_goal(waits, answered):
+            group = self.groups[at]
+            for step in steps_at(web, group[0]):
+                if self.is_answer(step[0], step[1], group):
                     return self.walk_to((at, step))
-                self.enter(step[1], group & 1, waits, (at, step))
+                self.enter(step[1], group[1], self.holds(step[0], step[1], group), (at, step))
             at += 1
         return None
 
@@ -147,11 +135,11 @@ def soonest(web, one, other):
 def soon(web, one, other):
     """The first of the shortest walks that end with the answer of a meeting with the least wait."""
     check_marks(web, one, other)
-    least = Answers(web, one, other).soonest
-    if least is None:
+    answers = Answers(web, one, other)
+    if answers.soonest is None:
         return None
-    walk = FirstMeetings(web, one, other, least).search(lambda waits, answered: answered >> least & 1 == 1)
-    return (walk, Moments(walk, one, other).first_answered(least))
+    walk = FirstAnswers(answers, one).search(web)
+    return (walk, Moments(walk, one, other).first_answered(answers.soonest))
 
 
 def is_delay_key(meetings, t, value, place):

@@ -3,7 +3,7 @@ import unittest
 
 import helper
 from helper import HOUSE, TEXT, WORLD, four_thousand, put, seeded
-from housekept import errors, escapes, machines, marks, promises, times, waits, webs
+from housekept import errors, escapes, machines, marks, promises, times, webs
 from test_marks import TICK, meets, open_meetings, random_mark, random_web, ticks, walks
 
 
@@ -29,6 +29,87 @@ def order_of(web, walk):
 def first_of(web, found):
     """Of some (walk, moment) that with the fewest moves, the first walk, the least moment."""
     return min(found, key=lambda pair: (len(pair[0][1]), order_of(web, pair[0]), pair[1]))
+
+
+class FirstMeetings:
+    """Walks with the fewest moves, the first ones first, each with the waits of its open meetings.
+
+    A group is what can be at the end of one walk, and at the end of none ahead of it: a whole with the bit 0
+    for the walk itself, and the bit w + 1 for an open meeting whose wait is w. Waits above the most are left out.
+    """
+
+    def __init__(self, web, one, other, most):
+        self.web = web
+        self.mask = (1 << (most + 1)) - 1
+        self.places = [{at: True for at in mark[0]} for mark in (one, other)]
+        self.labels = [{word: True for word in mark[1]} for mark in (one, other)]
+        self.seen = {}
+        self.steps = {}
+        self.groups = []
+
+    def steps_from(self, place):
+        """The steps of a place, but for those that do what one ahead of them does."""
+        if place not in self.steps:
+            found = {}
+            for step in [(label, behind) for label, _, _, behind in self.web[2][place]]:
+                label = step[0]
+                key = (step[1], label == TICK, label in self.labels[0], label in self.labels[1])
+                found.setdefault(key, step)
+            self.steps[place] = [(key, found[key]) for key in found]
+        return self.steps[place]
+
+    def arrived(self, place, begun, waits, answered):
+        """The waits of meetings that are open, and those that are answered, behind a place."""
+        meets = place in self.places[0] and begun
+        if place in self.places[1]:
+            return 0, answered | waits | (1 if meets else 0)
+        return (waits | (1 if meets else 0)) & self.mask, answered
+
+    def stepped(self, group, key):
+        """The waits of open and of answered meetings behind a step from a group."""
+        behind, is_tick, meets, answers = key
+        begun = group & 1
+        waits = group >> 1
+        if is_tick:
+            waits = waits << 1
+        if meets and begun:
+            waits = waits | 1
+        if answers:
+            return self.arrived(behind, begun, 0, waits)
+        return self.arrived(behind, begun, waits, 0)
+
+    def enter(self, place, begun, waits, parent):
+        """Take in what is new at a place."""
+        group = ((waits << 1) | begun) & ~self.seen.get(place, 0)
+        if group:
+            self.seen[place] = self.seen.get(place, 0) | group
+            self.groups.append((place, group, parent))
+
+    def walk_to(self, parent):
+        """The walk of a parent: of a group, or of a begin, and the last step behind it."""
+        steps = []
+        while parent[0] is not None:
+            steps.append(parent[1])
+            parent = self.groups[parent[0]][2]
+        return (parent[1], tuple(steps[::-1]))
+
+    def search(self, is_goal):
+        """The first of the shortest walks whose (open waits, answered waits) are a goal."""
+        for begin in self.web[1]:
+            waits, answered = self.arrived(begin, 1, 0, 0)
+            if is_goal(waits, answered):
+                return (begin, ())
+            self.enter(begin, 1, waits, (None, begin))
+        at = 0
+        while at < len(self.groups):
+            place, group, _ = self.groups[at]
+            for key, step in self.steps_from(place):
+                waits, answered = self.stepped(group, key)
+                if is_goal(waits, answered):
+                    return self.walk_to((at, step))
+                self.enter(step[1], group & 1, waits, (at, step))
+            at += 1
+        return None
 
 
 class Times(unittest.TestCase):
@@ -184,7 +265,7 @@ class Times(unittest.TestCase):
         for rand, web, one, other in self.each(7, 120, 7, 0.12):
             for t in (5, 23, 400):
                 late = times.late(web, one, other, t)
-                walk = waits.FirstMeetings(web, one, other, t).search(lambda held, _: held >> t & 1 == 1)
+                walk = FirstMeetings(web, one, other, t).search(lambda held, _: held >> t & 1 == 1)
                 self.assertEqual(late and late[0], walk)
                 if late is not None:
                     moments = [moment for moment, wait in open_meetings(walk, one, other) if wait == t] if t < 30 else [late[1]]

@@ -6,7 +6,7 @@ import helper
 from helper import BUTTONS, four_thousand, seeded
 from housekept import errors, machines, marks, spans, times, waits, webs
 from test_marks import TICK, meets, random_mark, random_web, ticks, walks
-from test_times import first_of
+from test_times import FirstMeetings, first_of
 
 
 def answered(walk, one, other):
@@ -62,6 +62,21 @@ class Waits(unittest.TestCase):
                 self.assertEqual(soon, first_of(web, found[least]))
             seen[least if least in seen else "more"] += 1
         self.assertGreater(min(seen.values()), 8, seen)
+
+    def test_soon_against_a_search(self):
+        """Greater waits and longer walks, against a search with all waits at all places."""
+        rand = seeded(9)
+        long = 0
+        for _ in range(300):
+            size = rand.randint(3, 9)
+            web = random_web(rand, size)
+            one, other = ((rand.randrange(size),), ()), ((rand.randrange(size),), ())
+            least = waits.soonest(web, one, other)
+            if least is not None:
+                walk = FirstMeetings(web, one, other, least).search(lambda _, done: done >> least & 1)
+                self.assertEqual(waits.soon(web, one, other)[0], walk)
+                long += least > 0 and len(walk[1]) > least
+        self.assertGreater(long, 10)
 
     def test_delays(self):
         """There is a delay for t exactly if no meeting is answered sooner."""
