@@ -5,6 +5,7 @@ import unittest
 import helper
 from helper import SMALL, SPLIT_DOORS, Plain, put, seeded
 from housekept import crowds, errors, machines, panels, rules, safe
+from test_joined import lying
 from test_lags import random_rules, samples
 from test_wrong import PARTING, SPLIT
 
@@ -203,6 +204,51 @@ class AnySilence(unittest.TestCase):
             if met is None:
                 continue
             yield rand, text, parting, world, falls, silent, met
+
+    def three(self, seed, many):
+        """Parted among three panels, so that a panel can read two lines."""
+        rand = seeded(seed)
+        names = [("a", ("shut", "free")), ("b", ("shut", "free")), ("smoke:room", ("no", "yes")), ("x", ("p", "q"))]
+        found = 0
+        while found < many:
+            text = ("text", SPLIT_DOORS, (("x", ("p", "q")),), (), (), random_rules(rand, names, 12))
+            owners = (0, 1, rand.randrange(3), 2) + tuple(rand.randrange(3) for _ in range(6))
+            parting = ("parting", 3, owners, 0, tuple(rand.choice(worths) for _, worths in names))
+            text = lying(rand, text, parting)
+            if text is None or len(panels.lines(text, parting)) < 3:
+                continue
+            world = ("world", (), tuple(button for button in range(2) if rand.random() < 0.6), (), 0)
+            falls = rand.randint(0, 1)
+            silent = Silent(text, parting, world, falls)
+            met = silent.controls(60)
+            found += 1
+            if met is not None:
+                yield rand, text, parting, world, falls, silent, met
+
+    def test_three_panels(self):
+        seen = {"many": 0, "some": 0, "none": 0}
+        for rand, text, parting, world, falls, silent, met in self.three(5, 40):
+            self.assertEqual(safe.controls(text, parting, world, falls), tuple(met))
+            seen["many"] += len(met) > 10
+            question, needs = self.question(rand, text), self.needs(rand)
+            try:
+                found, table = safe.any_silence(text, parting, world, falls, question, needs)
+            except errors.TooMany:
+                continue
+            seen["some" if found else "none"] += 1
+            self.check_table(text, parting, world, falls, question, needs, found, table)
+            for household, course in found:
+                if len(course) <= 2:
+                    self.assertEqual(silent.breaks(household, question, needs, len(course)), len(course))
+                state = silent.begin(household)
+                for label in course:
+                    behind = [new for one, new in silent.moves(state) if one == label]
+                    state = max(behind, key=lambda new: sum(map(len, new[3])))
+                self.assertTrue(silent.is_broken(state, question, needs))
+            for number in range(3):
+                if not any(is_within(household, (number,)) for household, _ in found):
+                    self.assertIsNone(silent.breaks((number,), question, needs, 2))
+        self.assertGreater(min(seen.values()), 2, seen)
 
     def question(self, rand, text):
         name, worths = rand.choice([pair for pair in rules.variables(text)])

@@ -330,6 +330,14 @@ class Knowing(unittest.TestCase):
                 with self.assertRaises(error) as caught:
                     call(one, ((),), ((),))
                 self.assertEqual(caught.exception.most, 2000)
+        # Ten ranges of four weathers and 200 lots of degrees are just 2000; 216 are more.
+        def cube(one, other, third):
+            rows = (("hall", 0, one - 1, 0), ("lab", 0, other - 1, 0), ("den", 0, third - 1, 0))
+            return ("air", rows, 3, (("hall", "lab", 1, None), ("lab", "out", 1, None)), (), (0, 3, 0, 1))
+        exact = unseen.Unseen(cube(8, 5, 5), ((),), ((),))
+        self.assertEqual(exact.rank(((0, 0, 0), 0, 0)) > 0, exact.free(((0, 0, 0), 0, 0)) == ())
+        with self.assertRaises(errors.TooMany):
+            unseen.Unseen(cube(6, 6, 6), ((),), ((),))
         # Of a thousand states and more Comfort tells first.
         three = ("air", (("hall", 0, 8, 0), ("lab", 0, 8, 0), ("den", 0, 8, 0)), 2, (), (), (0, 1, 0, 1))
         with self.assertRaises(errors.TooMany) as caught:
